@@ -1,0 +1,1 @@
+"""Lengthstell: frames that their lengths tell, and frames that are driven."""

@@ -1,0 +1,1 @@
+"""What all of the package rests on: words, and rows of integers."""

@@ -1,0 +1,55 @@
+"""Integers, names, lots, pairs and spaces: what the arguments are made of."""
+
+MAX_DIGITS = 2000
+MAX_LETTERS = 4
+
+
+def is_integer(value):
+    """Whether the value is an integer of at most 2000 digits; True and False are none."""
+    return isinstance(value, int) and not isinstance(value, bool) and _is_short(value)
+
+
+def _is_short(number):
+    """Whether a number has at most 2000 digits."""
+    # Three bits are less than a digit, so the long comparison is seldom needed.
+    return number.bit_length() <= 3 * MAX_DIGITS or abs(number) < _least_long()
+
+
+def _least_long():
+    """The least number that has more than 2000 digits."""
+    number = 1
+    for _ in range(MAX_DIGITS // 50):
+        number = number * 10 ** 50
+    return number
+
+
+def is_name(value):
+    """Whether the value is a string of one to four letters a to z."""
+    if not isinstance(value, str) or not 1 <= len(value) <= MAX_LETTERS:
+        return False
+    return all(["a" <= letter <= "z" for letter in value])
+
+
+def are_names(value):
+    """Whether the value is a tuple of names, in any order and perhaps with duplicates."""
+    return isinstance(value, tuple) and all([is_name(name) for name in value])
+
+
+def is_lot(value):
+    """Whether the value is an ascending tuple of names."""
+    return are_names(value) and is_ascending(value)
+
+
+def is_pair(value):
+    """Whether the value is an ascending pair of names."""
+    return is_lot(value) and len(value) == 2
+
+
+def is_space(value):
+    """Whether the value is 1, the line, or 2, the plane."""
+    return is_integer(value) and 1 <= value <= 2
+
+
+def is_ascending(values):
+    """Whether each of some values, all of one kind, is less than the next one."""
+    return all([values[at] < values[at + 1] for at in range(len(values) - 1)])

@@ -1,0 +1,1 @@
+"""What the counts of pins and rods tell about a frame."""

@@ -1,0 +1,1 @@
+"""Frames, and the lots of pins that cut them."""

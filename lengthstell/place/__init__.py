@@ -1,0 +1,1 @@
+"""Placings of frames on the line and in the plane."""

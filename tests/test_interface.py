@@ -1,0 +1,80 @@
+"""The interface: each name stands in the module that lists it, with the told arguments."""
+
+import importlib
+import inspect
+import unittest
+
+INTERFACE = {
+    "lengthstell.base.words": (
+        "is_integer(value)", "is_name(value)", "are_names(value)", "is_lot(value)", "is_pair(value)",
+        "is_space(value)",
+    ),
+    "lengthstell.base.rows": (
+        "rank(rows)", "are_free(rows)", "kernel(rows, width)", "solution(rows, aims)", "cleared(row)",
+        "determinant(table)", "is_square_sum(table)",
+    ),
+    "lengthstell.frame.frames": ("Frame(pins, rods=())",),
+    "lengthstell.frame.cuts": (
+        "pieces(frame)", "sides(frame, lot)", "is_cut_by(frame, lot)", "cuts(frame, size)",
+    ),
+    "lengthstell.place.placings": (
+        "is_placing(frame, value, *, space=2)", "space_of(placing)", "squares(frame, placing)",
+        "square_between(placing, one, other)", "are_alike(placing, other_placing)",
+        "rod_rows(frame, placing)", "rank_at(frame, placing)", "is_firm_at(frame, placing)",
+        "motions(frame, placing)", "is_motion(frame, placing, value)", "balances(frame, placing)",
+        "is_balance(frame, placing, value)", "weight_table(frame, weights)",
+        "mirrored(placing, one, other, side)", "shaken(placing, motion)",
+    ),
+    "lengthstell.count.counts": (
+        "count_rank(frame, *, space=2)", "is_sparse(frame, *, space=2)", "is_firm(frame, *, space=2)",
+        "pebbles(frame, *, space=2)", "is_pebbles(frame, value, *, space=2)", "crowd(frame, *, space=2)",
+        "is_crowd(frame, value, *, space=2)",
+    ),
+    "lengthstell.count.blocks": (
+        "blocks(frame, *, space=2)", "parting(frame, *, space=2)", "is_parting(frame, value, *, space=2)",
+        "parting_sum(frame, lots, *, space=2)", "spare_rods(frame, *, space=2)",
+        "bearing_lots(frame, *, space=2)", "circuit_with(frame, rod, *, space=2)",
+        "is_circuit(frame, *, space=2)", "filled(frame, *, space=2)",
+    ),
+}
+
+METHODS = (
+    "full(pins)", "neighbours(self, pin)", "with_rod(self, one, other)", "without_rod(self, one, other)",
+    "with_pin(self, pin, *neighbours)", "coned(self, pin)", "without_pin(self, pin)", "part(self, lot)",
+    "renamed(self, names)",
+)
+
+CONSTANTS = {
+    "lengthstell.base.words": {"MAX_DIGITS": 2000, "MAX_LETTERS": 4},
+    "lengthstell.base.rows": {"MAX_ROWS": 60, "MAX_WIDTH": 28},
+    "lengthstell.frame.frames": {"MAX_PINS": 8},
+}
+
+
+class InterfaceTest(unittest.TestCase):
+
+    def test_functions_and_classes(self):
+        for name, listed in INTERFACE.items():
+            module = importlib.import_module(name)
+            for head in listed:
+                word = head.partition("(")[0]
+                found = getattr(module, word)
+                self.assertEqual(found.__module__, name)
+                self.assertEqual(f"{word}{inspect.signature(found)}", head)
+
+    def test_methods_of_frames(self):
+        frame = importlib.import_module("lengthstell.frame.frames").Frame
+        for head in METHODS:
+            word = head.partition("(")[0]
+            self.assertIn(word, vars(frame))
+            self.assertEqual(f"{word}{inspect.signature(getattr(frame, word))}", head)
+
+    def test_constants(self):
+        for name, values in CONSTANTS.items():
+            module = importlib.import_module(name)
+            for word, value in values.items():
+                self.assertEqual(getattr(module, word), value)
+
+
+if __name__ == "__main__":
+    unittest.main()
