@@ -23,6 +23,9 @@ LOOSE_EIGHT = Frame(tuple("abcdefgh"))
 # Two full frames of four pins with one common pin.
 JOINED = Frame(tuple("abcdefg"), pairs("ab ac ad bc bd cd de df dg ef eg fg"))
 
+# Seven pins and fourteen rods: told, and no rod can go.
+SEVEN = Frame(tuple("abcdefg"), pairs("ad ae af ag bd be bf bg cd ce cf cg ab bc"))
+
 NAMED = (FOUR, KITE, WHEEL, TWIN, THREES, BOW, RING, SINGLE, EIGHT, LOOSE_EIGHT, JOINED)
 
 SQUARE = {"a": (0, 0), "b": (2, 0), "c": (2, 2), "d": (0, 2)}
@@ -47,6 +50,27 @@ def all_frames(pins):
         yield Frame(pins, rods)
 
 
+def shapes(pins):
+    """One frame of each shape with just these pins: all others have the same rods by other names."""
+    pins = tuple(sorted(pins))
+    places = {pair: at for at, pair in enumerate(itertools.combinations(pins, 2))}
+    orders = [
+        [places[tuple(sorted((names[one], names[other])))] for one, other in places]
+        for names in (dict(zip(pins, order)) for order in itertools.permutations(pins))
+    ]
+    seen = set()
+    for number in range(1 << len(places)):
+        if number not in seen:
+            here = [at for at in range(len(places)) if number >> at & 1]
+            seen.update(sum(1 << order[at] for at in here) for order in orders)
+            yield Frame(pins, tuple(pair for pair, at in places.items() if at in here))
+
+
+def renamed_at_random(rng, frame):
+    """The frame with its pins in another order."""
+    return frame.renamed(dict(zip(frame.pins, rng.sample(frame.pins, len(frame.pins)))))
+
+
 def random_frame(rng, many=None):
     """A frame of some pins, with any of its pairs as rods."""
     if many is None:
@@ -55,6 +79,20 @@ def random_frame(rng, many=None):
     share = rng.random()
     rods = [pair for pair in itertools.combinations(pins, 2) if rng.random() < share]
     return Frame(pins, tuple(rods))
+
+
+def random_told_frame(rng, many):
+    """A frame that is told in the plane, made by steps."""
+    names = tuple("abcdefgh")
+    frame = Frame.full(names[:4])
+    while len(frame.pins) < many or rng.random() < 0.3:
+        if len(frame.pins) < many and rng.random() < 0.7:
+            one, other = rng.choice(frame.rods)
+            third = rng.choice([pin for pin in frame.pins if pin not in (one, other)])
+            frame = frame.without_rod(one, other).with_pin(names[len(frame.pins)], one, other, third)
+        elif frame.missing:
+            frame = frame.with_rod(*rng.choice(frame.missing))
+    return frame.renamed(dict(zip(frame.pins, rng.sample(names, len(frame.pins)))))
 
 
 def random_placing(rng, frame, space, size):

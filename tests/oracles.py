@@ -3,7 +3,9 @@
 import functools
 import itertools
 from fractions import Fraction
+from math import isqrt
 
+from lengthstell.frame.frames import Frame
 from tests.examples import subsets
 
 
@@ -176,3 +178,228 @@ def pieces(frame, lot):
             groups = [group for group in groups if group not in touched]
             groups.append(set().union(*touched))
     return tuple(sorted(tuple(sorted(group)) for group in groups))
+
+
+def is_cut(frame, size):
+    """Whether some lot of just so many pins leaves two pieces or more."""
+    return any(len(pieces(frame, lot)) >= 2 for lot in itertools.combinations(frame.pins, size))
+
+
+@functools.lru_cache(maxsize=None)
+def _told(pins, rods, space):
+    frame = Frame(pins, rods)
+    if len(pins) <= space + 1:
+        return len(rods) == len(list(itertools.combinations(pins, 2)))
+    if is_cut(frame, space) or not is_firm(frame, space):
+        return False
+    return spare_rods(frame, space) == rods
+
+
+def is_told(frame, space):
+    """Whether the frame is told, by 0.16."""
+    return _told(frame.pins, frame.rods, space)
+
+
+def depth(frame, space):
+    return max(0, len(frame.pins) - 1 - space)
+
+
+def rod_rows(frame, placing):
+    """The rows of the rods, by 0.10."""
+    rows = []
+    for one, other in frame.rods:
+        row = []
+        for pin in frame.pins:
+            for x, y in zip(placing[one], placing[other]):
+                row.append(x - y if pin == one else y - x if pin == other else 0)
+        rows.append(row)
+    return rows
+
+
+def is_in_balance(frame, placing, weights):
+    """Whether weights are in balance, by 0.11."""
+    for pin in frame.pins:
+        for place in range(len(placing[pin])):
+            total = 0
+            for rod in frame.rods:
+                if pin in rod:
+                    end = rod[0] if rod[1] == pin else rod[1]
+                    total += weights[rod] * (placing[end][place] - placing[pin][place])
+            if total != 0:
+                return False
+    return True
+
+
+def weight_table(frame, weights):
+    table = [[0] * len(frame.pins) for _ in frame.pins]
+    for (one, other), weight in weights.items():
+        i, j = frame.pins.index(one), frame.pins.index(other)
+        table[i][j] -= weight
+        table[j][i] -= weight
+        table[i][i] += weight
+        table[j][j] += weight
+    return table
+
+
+def square_sum_rank(table):
+    """The rank of a table that is a sum of squares, None if it is none."""
+    left = [[Fraction(entry) for entry in row] for row in table]
+    found = 0
+    while left:
+        if any(row[at] < 0 for at, row in enumerate(left)):
+            return None
+        top = next((at for at, row in enumerate(left) if row[at] > 0), None)
+        if top is None:
+            return found if not any(any(row) for row in left) else None
+        lead = left[top]
+        left = [
+            [entry - row[top] * lead[j] / lead[top] for j, entry in enumerate(row) if j != top]
+            for i, row in enumerate(left) if i != top
+        ]
+        found += 1
+    return found
+
+
+def shows_told(frame, placing, weights, space):
+    """Whether a placing and weights are a paper that the frame is told, by 0.15."""
+    if list(placing) != list(frame.pins) or any(len(spot) != space for spot in placing.values()):
+        return False
+    if list(weights) != list(frame.rods) or not is_in_balance(frame, placing, weights):
+        return False
+    if rank(rod_rows(frame, placing)) != full_count(len(frame.pins), space):
+        return False
+    return square_sum_rank(weight_table(frame, weights)) == depth(frame, space)
+
+
+def shows_not_told(frame, paper, space):
+    """Whether a paper of one of the three other forms holds, by 6.5."""
+    most = full_count(len(frame.pins), space)
+    word, *parts = paper
+    if word == "loose":
+        return is_parting_of(frame.rods, parts[0]) and parting_sum(parts[0], space) < most
+    if len(frame.pins) <= space + 1:
+        return False
+    if word == "needed":
+        rods = tuple(rod for rod in frame.rods if rod != parts[0])
+        return parts[0] in frame.rods and is_parting_of(rods, parts[1]) and parting_sum(parts[1], space) < most
+    lot, side = parts
+    beyond = set(frame.pins) - set(lot) - set(side)
+    return (
+        word == "cut" and is_plain_lot(lot, frame.pins) and is_plain_lot(side, frame.pins)
+        and len(lot) == space and bool(side) and not set(lot) & set(side) and bool(beyond)
+        and not any(set(rod) & set(side) and set(rod) & beyond for rod in frame.rods)
+    )
+
+
+def is_plain_lot(lot, pins):
+    return lot == tuple(sorted(set(lot) & set(pins)))
+
+
+def is_parting_of(rods, lots):
+    if sorted(rod for lot in lots for rod in lot) != sorted(rods) or not all(lots):
+        return False
+    return lots == tuple(sorted(set(lots))) and all(lot == tuple(sorted(lot)) for lot in lots)
+
+
+def are_right_rows(frame, rows, space):
+    """Whether rows of integers are right rows, by 6.1: all determinants are asked."""
+    width = depth(frame, space)
+    if len(rows) != len(frame.pins) or any(len(row) != width for row in rows):
+        return False
+    by_pin = dict(zip(frame.pins, rows))
+    for one, other in itertools.combinations(frame.pins, 2):
+        if (one, other) not in frame.rods and sum(x * y for x, y in zip(by_pin[one], by_pin[other])) != 0:
+            return False
+    return all(rank(some) == width for some in itertools.combinations(rows, width))
+
+
+def do_come_of(frame, rows, placing, weights, space):
+    """Whether a placing and weights come of right rows, by 6.3: the factors are looked for."""
+    spots = [placing[pin] for pin in frame.pins]
+    if len(set(spots)) < len(spots) or any(len(spot) != space for spot in spots):
+        return False
+    if space == 2 and any(turn(*some) == 0 for some in itertools.combinations(spots, 3)):
+        return False
+    if depth(frame, space) == 0:
+        return all(weight == 0 for weight in weights.values())
+    # The factors are the numbers with which all these rows have the product 0.
+    asked = [
+        [row[place] * by for row, by in zip(rows, (1,) * len(rows) if at is None else [s[at] for s in spots])]
+        for at in (None, *range(space)) for place in range(depth(frame, space))
+    ]
+    done, leads = echelon(asked)
+    if len(leads) != len(rows) - 1:
+        return False
+    free = next(at for at in range(len(rows)) if at not in leads)
+    factors = [Fraction(0)] * len(rows)
+    factors[free] = Fraction(1)
+    for lead, row in zip(leads, done):
+        factors[lead] = -row[free]
+    if 0 in factors:
+        return False
+    by_pin = dict(zip(frame.pins, zip(rows, factors)))
+    scales = set()
+    for (one, other), weight in weights.items():
+        (row, factor), (against, by) = by_pin[one], by_pin[other]
+        whole = -factor * by * sum(x * y for x, y in zip(row, against))
+        if whole == 0 or weight == 0:
+            if whole != weight:
+                return False
+        else:
+            scales.add(weight / whole)
+    return len(scales) <= 1 and all(are_integers_with(factors, scale) for scale in scales)
+
+
+def are_integers_with(factors, scale):
+    """Whether the factors, times the root of a scale, are integers."""
+    top, bottom = isqrt(scale.numerator) if scale > 0 else 0, isqrt(scale.denominator)
+    if Fraction(top, bottom) ** 2 != scale:
+        return False
+    return all((factor * top / bottom).denominator == 1 for factor in factors)
+
+
+def turn(one, other, third):
+    """0 exactly if three spots of the plane lie on a line."""
+    return (other[0] - one[0]) * (third[1] - one[1]) - (other[1] - one[1]) * (third[0] - one[0])
+
+
+def is_free_placing(frame, placing, space):
+    """Whether a placing with spots of the space is free, by 5.3."""
+    spots = list(placing.values())
+    if list(placing) != list(frame.pins) or len(set(spots)) < len(spots):
+        return False
+    if any(len(spot) != space for spot in spots):
+        return False
+    if space == 2 and any(turn(*some) == 0 for some in itertools.combinations(spots, 3)):
+        return False
+    return rank(rod_rows(frame, placing)) == count_rank(frame, space)
+
+
+def built(row):
+    """The pins and rods that a build row makes, by 5.1."""
+    pins, rods = set(row[0][1:]), {row[0][1:]}
+    for word, pin, *others in row[1:]:
+        assert pin not in pins and set(others) <= pins and len(set(others)) == len(others)
+        assert others[0] < others[1] and len(others) == {"two": 2, "three": 3}[word]
+        if word == "three":
+            rods.remove(tuple(others[:2]))
+        pins.add(pin)
+        rods |= {tuple(sorted((pin, other))) for other in others}
+    return tuple(sorted(pins)), tuple(sorted(rods))
+
+
+def made_by_told_row(row):
+    """The pins and rods of a told row, by 7.1."""
+    assert row[0][0] == "full" and len(row[0]) == 5 and list(row[0][1:]) == sorted(set(row[0][1:]))
+    pins, rods = set(row[0][1:]), set(itertools.combinations(row[0][1:], 2))
+    for step in row[1:]:
+        if step[0] == "rod":
+            assert step[1] < step[2] and set(step[1:]) <= pins and step[1:] not in rods
+            rods.add(step[1:])
+        else:
+            word, pin, one, other, third = step
+            assert word == "three" and pin not in pins and third in pins - {one, other} and len(pins) <= 7
+            rods.remove((one, other))
+            rods |= {tuple(sorted((pin, end))) for end in (one, other, third)}
+            pins.add(pin)
+    return tuple(sorted(pins)), tuple(sorted(rods))

@@ -36,6 +36,21 @@ INTERFACE = {
         "bearing_lots(frame, *, space=2)", "circuit_with(frame, rod, *, space=2)",
         "is_circuit(frame, *, space=2)", "filled(frame, *, space=2)",
     ),
+    "lengthstell.place.built": (
+        "frame_built(row)", "build_row(frame)", "is_build_row(frame, value)", "free_placing(frame, *, space=2)",
+        "is_free_placing(frame, value, *, space=2)",
+    ),
+    "lengthstell.told.rows": (
+        "right_rows(frame, *, space=2)", "are_right_rows(frame, value, *, space=2)",
+        "placing_of_rows(frame, rows, *, space=2)",
+    ),
+    "lengthstell.told.told": (
+        "is_told(frame, *, space=2)", "told_paper(frame, *, space=2)", "is_told_paper(frame, value, *, space=2)",
+    ),
+    "lengthstell.told.steps": (
+        "last_steps(frame)", "told_row(frame)", "is_told_row(frame, value)", "frame_of_row(row)",
+        "split(frame, placing, weights, rod, pin, third)",
+    ),
 }
 
 METHODS = (
@@ -48,6 +63,7 @@ CONSTANTS = {
     "lengthstell.base.words": {"MAX_DIGITS": 2000, "MAX_LETTERS": 4},
     "lengthstell.base.rows": {"MAX_ROWS": 60, "MAX_WIDTH": 28},
     "lengthstell.frame.frames": {"MAX_PINS": 8},
+    "lengthstell.told.rows": {"MOST_MADE": 7},
 }
 
 

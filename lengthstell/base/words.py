@@ -6,20 +6,22 @@ MAX_LETTERS = 4
 
 def is_integer(value):
     """Whether the value is an integer of at most 2000 digits; True and False are none."""
-    return isinstance(value, int) and not isinstance(value, bool) and _is_short(value)
+    return isinstance(value, int) and not isinstance(value, bool) and has_digits(value, MAX_DIGITS)
 
 
-def _is_short(number):
-    """Whether a number has at most 2000 digits."""
-    # Three bits are less than a digit, so the long comparison is seldom needed.
-    return number.bit_length() <= 3 * MAX_DIGITS or abs(number) < _least_long()
+def has_digits(number, most):
+    """Whether a number has at most so many digits."""
+    # A digit is a little more than 3.3219 bits, so the long comparison is seldom needed.
+    return 10000 * number.bit_length() <= 33219 * most or abs(number) < _least_longer(most)
 
 
-def _least_long():
-    """The least number that has more than 2000 digits."""
+def _least_longer(digits):
+    """The least number that has more than so many digits."""
     number = 1
-    for _ in range(MAX_DIGITS // 50):
-        number = number * 10 ** 50
+    for _ in range(digits // 20):
+        number = number * 10 ** 20
+    for _ in range(digits - digits // 20 * 20):
+        number = number * 10
     return number
 
 

@@ -27,12 +27,10 @@ def is_parting(frame, value, *, space=2):
     """Whether the value is a parting of all rods that has the least sum."""
     check_frame(frame)
     check_space(space)
-    if not _is_some_parting(frame.rods, value):
-        return False
-    if sum([len(lot) for lot in value]) != len(frame.rods):
+    if not are_parted(frame.rods, value):
         return False
     tails, _ = played(frame.rods, space)
-    return _sum_of(value, space) == len(tails)
+    return sum_of_lots(value, space) == len(tails)
 
 
 def parting_sum(frame, lots, *, space=2):
@@ -41,7 +39,7 @@ def parting_sum(frame, lots, *, space=2):
     if not _is_some_parting(frame.rods, lots):
         raise InvalidOperation("this is no parting of some rods of the frame")
     check_space(space)
-    return _sum_of(lots, space)
+    return sum_of_lots(lots, space)
 
 
 def spare_rods(frame, *, space=2):
@@ -92,6 +90,16 @@ def filled(frame, *, space=2):
     return Frame(frame.pins, _filled_rods(frame, space))
 
 
+def are_parted(rods, value):
+    """Whether the value is a parting of all of some rods."""
+    return _is_some_parting(rods, value) and sum([len(lot) for lot in value]) == len(rods)
+
+
+def sum_of_lots(lots, space):
+    """The sum of the full counts of the pins of some lots of rods."""
+    return sum([full_count(len(ends_of(lot)), space) for lot in lots])
+
+
 def _filled_rods(frame, space):
     """All pairs with which the count rank is the same, ascending; the rods are among them."""
     tails, _ = played(frame.rods, space)
@@ -135,10 +143,6 @@ def _is_rod_lot(rods, value):
     if not isinstance(value, tuple) or len(value) == 0:
         return False
     return all([rod in rods for rod in value]) and is_ascending(value)
-
-
-def _sum_of(lots, space):
-    return sum([full_count(len(ends_of(lot)), space) for lot in lots])
 
 
 def _joined(lots, circuit):

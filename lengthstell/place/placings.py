@@ -81,7 +81,7 @@ def motions(frame, placing):
     check_placing(frame, placing)
     space = space_in(placing)
     found = kernel_of(_rows_of(frame, placing), len(frame.pins) * space)
-    return tuple([_told_by_pins(frame.pins, row, space) for row in found])
+    return tuple([told_by_pins(frame.pins, row, space) for row in found])
 
 
 def is_motion(frame, placing, value):
@@ -90,7 +90,7 @@ def is_motion(frame, placing, value):
     check_placing(frame, placing)
     if not are_spots(frame.pins, value, space_in(placing)):
         return False
-    return all([_pace(rod, placing, value) == 0 for rod in frame.rods])
+    return all([pace_of(rod, placing, value) == 0 for rod in frame.rods])
 
 
 def balances(frame, placing):
@@ -155,6 +155,18 @@ def shaken(placing, motion):
     return ahead, behind
 
 
+def pace_of(rod, placing, velocities):
+    """The row of a rod times velocities."""
+    one, other = rod
+    apart = _difference(placing[one], placing[other])
+    return product_of(apart, _difference(velocities[one], velocities[other]))
+
+
+def told_by_pins(pins, row, space):
+    """The dict from the pins to their parts of a row."""
+    return {pin: row[at * space:at * space + space] for at, pin in enumerate(pins)}
+
+
 def _sum(spot, other):
     return tuple([number + further for number, further in zip(spot, other)])
 
@@ -174,13 +186,6 @@ def _square(spot, other):
 
 def _squares_of(pairs, placing):
     return {(one, other): _square(placing[one], placing[other]) for one, other in pairs}
-
-
-def _pace(rod, placing, velocities):
-    """The row of a rod times velocities."""
-    one, other = rod
-    apart = _difference(placing[one], placing[other])
-    return product_of(apart, _difference(velocities[one], velocities[other]))
 
 
 def _rows_of(frame, placing):
@@ -207,11 +212,6 @@ def _columns_of(frame, placing):
     rows = _rows_of(frame, placing)
     width = len(frame.pins) * space_in(placing)
     return tuple([tuple([row[at] for row in rows]) for at in range(width)])
-
-
-def _told_by_pins(pins, row, space):
-    """The dict from the pins to their parts of a row."""
-    return {pin: row[at * space:at * space + space] for at, pin in enumerate(pins)}
 
 
 def _entry(frame, weights, one, other):

@@ -1,0 +1,1 @@
+"""Frames that their lengths tell: rows at right angles, papers and steps."""
