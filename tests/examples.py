@@ -23,7 +23,7 @@ LOOSE_EIGHT = Frame(tuple("abcdefgh"))
 # Two full frames of four pins with one common pin.
 JOINED = Frame(tuple("abcdefg"), pairs("ab ac ad bc bd cd de df dg ef eg fg"))
 
-# Seven pins and fourteen rods: told, and no rod can go.
+# Seven pins and fourteen rods: told, and just ab and bc can go.
 SEVEN = Frame(tuple("abcdefg"), pairs("ad ae af ag bd be bf bg cd ce cf cg ab bc"))
 
 NAMED = (FOUR, KITE, WHEEL, TWIN, THREES, BOW, RING, SINGLE, EIGHT, LOOSE_EIGHT, JOINED)

@@ -403,3 +403,45 @@ def made_by_told_row(row):
             rods |= {tuple(sorted((pin, end))) for end in (one, other, third)}
             pins.add(pin)
     return tuple(sorted(pins)), tuple(sorted(rods))
+
+
+def nullspace(rows, width):
+    """Fractions of which all rows that have the product 0 with the given ones are sums of multiples."""
+    done, leads = echelon(rows)
+    found = []
+    for column in range(width):
+        if column not in leads:
+            entries = [Fraction(int(at == column)) for at in range(width)]
+            for lead, row in zip(leads, done):
+                entries[lead] = -row[column]
+            found.append(entries)
+    return found
+
+
+def balances(frame, placing):
+    """Fractions in balance, told by dicts, of which all are sums of multiples."""
+    rows = rod_rows(frame, placing)
+    columns = [list(column) for column in zip(*rows)]
+    return [dict(zip(frame.rods, entries)) for entries in nullspace(columns, len(frame.rods))]
+
+
+def least(lots):
+    return tuple(sorted(lot for lot in lots if not any(set(other) < set(lot) for other in lots)))
+
+
+def greatest(lots):
+    return tuple(sorted(lot for lot in lots if not any(set(lot) < set(other) for other in lots)))
+
+
+def with_rods(frame, lot):
+    return Frame(frame.pins, tuple(sorted(frame.rods + tuple(lot))))
+
+
+def without_rods(frame, lot):
+    return Frame(frame.pins, tuple(rod for rod in frame.rods if rod not in lot))
+
+
+def meeting_lots(lots):
+    """The least meeting lots, by asking all lots of the pairs."""
+    members = sorted({pair for lot in lots for pair in lot})
+    return least([some for some in subsets(members) if all(set(some) & set(lot) for lot in lots)])

@@ -51,6 +51,20 @@ INTERFACE = {
         "last_steps(frame)", "told_row(frame)", "is_told_row(frame, value)", "frame_of_row(row)",
         "split(frame, placing, weights, rod, pin, third)",
     ),
+    "lengthstell.told.enough": (
+        "needless(frame, *, space=2)", "told_lots(frame, offered, *, space=2)", "enough(frame, offered, *, space=2)",
+        "lacking(frame, offered, *, space=2)", "are_families(frame, offered, value, *, space=2)",
+        "left_out(frame, doubtful, *, space=2)", "breaking(frame, doubtful, *, space=2)", "meeting_lots(lots)",
+    ),
+    "lengthstell.join.sums": (
+        "two_sum(one, other)", "halves(frame, lot)", "leaves(frame)", "summed_weights(one, first, other, second)",
+    ),
+    "lengthstell.join.papers": ("joined_paper(one, first, other, second)",),
+    "lengthstell.small.changes": (
+        "change_paper(frame, placing, change)", "is_change_paper(frame, placing, change, value)",
+        "shows(frame, placing, rod)", "proportion(frame, placing, one, other)", "mistaken(frame, placing)",
+        "answer_pace(frame, placing, driven, watched)",
+    ),
 }
 
 METHODS = (
@@ -64,6 +78,8 @@ CONSTANTS = {
     "lengthstell.base.rows": {"MAX_ROWS": 60, "MAX_WIDTH": 28},
     "lengthstell.frame.frames": {"MAX_PINS": 8},
     "lengthstell.told.rows": {"MOST_MADE": 7},
+    "lengthstell.told.enough": {"MOST_OFFERED": 5, "MOST_LOTS": 40, "MOST_MEMBERS": 10},
+    "lengthstell.small.changes": {"MAX_DIGITS": 140},
 }
 
 

@@ -32,7 +32,7 @@ BARRED_WORDS = re.compile(
 )
 BARRED_NODES = (
     ast.Lambda, ast.GeneratorExp, ast.AsyncFunctionDef, ast.Await, ast.AsyncFor, ast.AsyncWith, ast.Global,
-    ast.Nonlocal, ast.Try, ast.With, ast.Yield, ast.YieldFrom, ast.NamedExpr, ast.Div, ast.MatMult, ast.Set,
+    ast.Nonlocal, ast.Try, ast.With, ast.YieldFrom, ast.NamedExpr, ast.Div, ast.MatMult, ast.Set,
     ast.AnnAssign, ast.Import, ast.Delete, ast.Match,
 )
 
@@ -164,6 +164,26 @@ class LanguageTest(unittest.TestCase):
                     for operator, right in zip(node.ops, node.comparators):
                         if isinstance(operator, (ast.Is, ast.IsNot)):
                             self.assertIsInstance(right, ast.Constant)
+
+    def test_generators(self):
+        made = {}
+        for path, tree in trees():
+            above = parents(tree)
+            for function in functions(tree):
+                inner = [node for node in ast.walk(function) if isinstance(node, ast.Yield)]
+                if inner:
+                    made[function.name] = path
+                    self.assertEqual(function.decorator_list, [])
+                    self.assertTrue(all(isinstance(above[node], ast.Expr) for node in inner), path)
+        self.assertEqual(sorted(made), ["told_lots"])
+        names = [function.name for _, tree in trees() for function in functions(tree)]
+        for name in made:
+            self.assertEqual(names.count(name), 1)
+            self.assertNotIn(name, METHODS)
+        for path, tree in trees():
+            for node in ast.walk(tree):
+                if isinstance(node, ast.Name):
+                    self.assertNotIn(node.id, made, path)
 
     def test_decorators_and_annotations(self):
         for path, tree in trees():

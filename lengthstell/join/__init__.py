@@ -1,0 +1,1 @@
+"""Frames that are put together of others, and what shows that they are told."""

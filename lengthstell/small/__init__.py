@@ -1,0 +1,1 @@
+"""Small changes of the lengths of rods, and the velocities that make them."""
