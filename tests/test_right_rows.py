@@ -24,6 +24,7 @@ from tests.examples import (
     TWIN,
     WHEEL,
     all_frames,
+    pairs,
     random_frame,
     renamed_at_random,
     shapes,
@@ -67,6 +68,20 @@ class RightRowsTest(Refusals):
         for frame in frames + rings + [frame for frame in NAMED if len(frame.pins) <= 7]:
             self.check_frame(frame, 1)
             self.check_frame(frame, 2)
+
+    def test_frames_whose_rows_grow(self):
+        # In these orders of the pins the integers grow fast, if the rows are made in the same order.
+        for text in (
+            "ac ad ae ag bc bd be bf bg cf", "ab ac ad ae ag bc bd be bf bg cf", "ad ae af bd be bg cf cg fg",
+            "ad ae bd be bg cf cg df fg",
+            "ab bc cd de ef fg ag", "af be cg ad bg ce df", "ac bc bd de ef fg ag", "ae be bf cf cg dg ad",
+        ):
+            frame = Frame(tuple("abcdefg"), tuple(sorted(pairs(text))))
+            self.check_frame(frame, 1)
+            self.check_frame(frame, 2)
+            rng = random.Random(76)
+            for _ in range(10):
+                self.check_frame(renamed_at_random(rng, frame), 1)
 
     def check_frame(self, frame, space):
         rows = right_rows(frame, space=space)

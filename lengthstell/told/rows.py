@@ -6,6 +6,7 @@ from lengthstell.base.elimination import divided, kernel_of, product_of
 from lengthstell.base.words import is_integer
 from lengthstell.errors import InvalidOperation, TooMany
 from lengthstell.frame.checks import check_frame, check_space
+from lengthstell.frame.frames import pair_of
 from lengthstell.told.telling import depth_of, is_cut_somewhere
 
 MOST_MADE = 7
@@ -57,18 +58,30 @@ def check_few_pins(frame):
 def rows_tried(frame, space, attempt):
     """The right rows that an attempt of some number makes, or None if it fails.
 
-    The frame is cut nowhere. Each row is a sum of multiples of the rows at right
-    angles to all rows ahead of it to which it must be, so that almost all such
-    sums make right rows, in whichever order the pins are taken.
+    The frame is cut nowhere. Each row is a sum of multiples of rows at right angles
+    to all of those made ahead to which it must be. Almost all such sums make right
+    rows, in whichever order the pins are taken, and from these comes a firm placing
+    if the frame is told: for all frames of at most seven pins, in each order of
+    their pins, one of the first five attempts does so. This has been tried.
     """
     width = depth_of(len(frame.pins), space)
-    rows = []
-    for at in range(len(frame.pins)):
-        apart = [rows[ahead] for ahead in range(at) if (frame.pins[ahead], frame.pins[at]) not in frame.rods]
-        rows.append(_row_within(kernel_of(apart, width), width, _multiplier(at + attempt)))
+    by_pin = {}
+    for at, pin in enumerate(_order_made(frame)):
+        apart = [by_pin[other] for other in by_pin if pair_of(pin, other) not in frame.rods]
+        by_pin[pin] = _row_within(kernel_of(apart, width), width, _multiplier((at + attempt) % MOST_MADE))
+    rows = tuple([by_pin[pin] for pin in frame.pins])
     if _are_short(rows) and _are_general(rows, space):
-        return tuple(rows)
+        return rows
     return None
+
+
+def _order_made(frame):
+    """The pins in the order in which their rows are made.
+
+    The rows of pins with few rods must be at right angles to many others: their
+    integers stay short if they come first.
+    """
+    return [pin for _, pin in sorted([(len(frame.neighbours(pin)), pin) for pin in frame.pins])]
 
 
 def come_of(frame, rows, space):
