@@ -76,6 +76,20 @@ def local_names(function):
     return set(parameters(function) + stored)
 
 
+def asks_kind(node):
+    """Whether a comparison is of the one form in which L8 lets `type` stand: type(x) is int."""
+    left = node.left
+    is_call = isinstance(left, ast.Call) and isinstance(left.func, ast.Name) and left.func.id == "type"
+    return is_call and len(node.ops) == 1 and len(left.args) == 1 and isinstance(left.args[0], ast.Name) and (
+        isinstance(node.ops[0], (ast.Is, ast.IsNot)) and isinstance(node.comparators[0], ast.Name)
+        and node.comparators[0].id in ("int", "str", "bool", "list", "tuple", "dict"))
+
+
+def kind_names(tree):
+    """The names `type` of all comparisons of that form."""
+    return {node.left.func for node in ast.walk(tree) if isinstance(node, ast.Compare) and asks_kind(node)}
+
+
 class LanguageTest(unittest.TestCase):
 
     def test_files(self):
@@ -162,7 +176,7 @@ class LanguageTest(unittest.TestCase):
                     self.assertTrue(0 <= node.right.value <= 64)
                 if isinstance(node, ast.Compare):
                     for operator, right in zip(node.ops, node.comparators):
-                        if isinstance(operator, (ast.Is, ast.IsNot)):
+                        if isinstance(operator, (ast.Is, ast.IsNot)) and not asks_kind(node):
                             self.assertIsInstance(right, ast.Constant)
 
     def test_generators(self):
@@ -199,8 +213,9 @@ class LanguageTest(unittest.TestCase):
 
     def test_names(self):
         for path, tree in trees():
+            asked = kind_names(tree)
             for node in ast.walk(tree):
-                for name in self.names_of(node):
+                for name in self.names_of(node) if node not in asked else []:
                     self.assertRegex(name, r"^_?[A-Za-z][A-Za-z0-9_]*$|^_$|^__[a-z]+__$", path)
                     if name.startswith("__"):
                         self.assertIn(name, DUNDERS)
@@ -247,7 +262,10 @@ class LanguageTest(unittest.TestCase):
                if isinstance(node, (ast.FunctionDef, ast.ClassDef))}
         library = set().union(*LIBRARY.values())
         for path, tree in trees():
+            asked = kind_names(tree)
             for node in ast.walk(tree):
+                if isinstance(node, ast.Call) and node.func in asked or node in asked:
+                    continue
                 if isinstance(node, ast.Call) and isinstance(node.func, ast.Name):
                     self.assertIn(node.func.id, own | BUILTINS | library | {"cls"}, path)
                 if isinstance(node, ast.Call) and isinstance(node.func, ast.Attribute):

@@ -94,8 +94,8 @@ class RowsTest(Refusals):
             rows = random_rows(rng, rng.randrange(1, 9), width, rng.choice((1, 3, 10 ** 6, 10 ** 40)))
             self.check_rows(rows, width)
 
-    def check_rows(self, rows, width):
-        leads = oracles.led_columns(rows, width)
+    def check_rows(self, rows, width, leads=None):
+        leads = oracles.led_columns(rows, width) if leads is None else leads
         self.assertEqual(rank(rows), len(leads))
         self.assertIs(are_free(rows), len(leads) == len(rows))
         found = kernel(rows, width)
@@ -123,14 +123,14 @@ class RowsTest(Refusals):
         self.assertIn(None, answers)
         self.assertGreater(len([answer for answer in answers if answer and answer[1] > 1]), 30)
 
-    def check_solution(self, rows, width, aims):
+    def check_solution(self, rows, width, aims, leads=None):
         found = solution(rows, aims)
         wide = [row + (aim,) for row, aim in zip(rows, aims)]
         if oracles.rank(wide) > oracles.rank(rows):
             self.assertIsNone(found)
             return None
         values, scale = found
-        leads = oracles.led_columns(rows, width)
+        leads = oracles.led_columns(rows, width) if leads is None else leads
         self.assertEqual([product(row, values) for row in rows], [aim * scale for aim in aims])
         self.assertEqual([values[at] for at in range(width) if at not in leads], [0] * (width - len(leads)))
         self.assertEqual((len(values), gcd(scale, *values)), (width, 1))
@@ -209,6 +209,53 @@ class RowsTest(Refusals):
         self.assertEqual((rank(wide), are_free(wide), are_free(wide[:28]), kernel(wide, 28)), (28, False, True, ()))
         table = tuple(tuple(int(i == j) * 2 for j in range(28)) for i in range(28))
         self.assertEqual((determinant(table), is_square_sum(table)), (2 ** 28, True))
+
+    def test_sixty_equal_rows(self):
+        rows = ((1, 0, 2, 1) * 7,) * 60
+        self.assertEqual((rank(rows), are_free(rows), len(kernel(rows, 28))), (1, False, 27))
+        self.check_rows(rows, 28)
+        self.assertEqual(solution(rows, (3,) * 60), ((3,) + (0,) * 27, 1))
+        self.assertIsNone(solution(rows, (3,) * 59 + (4,)))
+        self.assertEqual((rank(((0,) * 28,) * 60), len(kernel(((0,) * 28,) * 60, 28))), (0, 28))
+
+    def test_sixty_rows_of_few_kinds_and_unlike_ones(self):
+        rng = random.Random(18)
+        for many, size in ((2, 3), (5, 1), (14, 9), (30, 2), (60, 1), (60, 10 ** 9)):
+            kinds = [tuple(rng.randrange(-size, size + 1) for _ in range(28)) for _ in range(many)]
+            self.check_sixty(rng, tuple(rng.choice(kinds) for _ in range(60)))
+        for many, size in ((1, 2), (6, 1), (13, 3), (27, 1)):
+            free = [tuple(rng.randrange(-size, size + 1) for _ in range(28)) for _ in range(many)]
+            rows = []
+            while len(rows) < 60:
+                by = [rng.randrange(-4, 5) for _ in free]
+                row = tuple(sum(x * y for x, y in zip(by, column)) for column in zip(*free))
+                # There are not so many unlike multiples of one row that are small.
+                rows.append(tuple(len(rows) * entry for entry in row) if many == 1 else row)
+            self.check_sixty(rng, tuple(rows))
+        sparse = tuple(tuple(int(at in (one % 28, (5 * one + 1) % 28)) for at in range(28)) for one in range(60))
+        self.check_sixty(rng, sparse)
+
+    def check_sixty(self, rng, rows):
+        leads = oracles.echelon(rows)[1]
+        self.check_rows(rows, 28, leads)
+        values = tuple(rng.randrange(-4, 5) for _ in range(28))
+        aims = tuple(product(row, values) for row in rows)
+        self.assertIsNotNone(self.check_solution(rows, 28, aims, leads))
+        self.check_solution(rows, 28, aims[:-1] + (aims[-1] + 1,), leads)
+
+    def test_equal_rows_with_wrong_entries(self):
+        row = (1, 0, 2, 1) * 7
+        for wrong in (True, False, None, "1", (1,), TOO_LONG, -TOO_LONG, [1]):
+            for at in (0, 27):
+                bad = row[:at] + (wrong,) + row[at + 1:]
+                for rows in ((row,) * 59 + (bad,), (bad,) + (row,) * 59, (bad,) * 60):
+                    self.refused(InvalidOperation, rank, rows)
+                    self.refused(InvalidOperation, are_free, rows)
+                    self.refused(InvalidOperation, kernel, rows, 28)
+                    self.refused(InvalidOperation, solution, rows, (1,) * 60)
+                self.refused(InvalidOperation, solution, (row,) * 28, bad)
+                self.refused(InvalidOperation, determinant, (row,) * 27 + (bad,))
+        self.refused(InvalidOperation, rank, (row,) * 59 + (list(row),))
 
     def test_long_integers(self):
         rows = ((LONGEST, -LONG), (LONG, LONGEST))

@@ -1,15 +1,16 @@
 """Elimination without fractions, for rows of integers of any length.
 
-The *reduced form* of rows is a triple (leads, form, scale). The leads are the led
-columns, ascending. The form has one row for each of them, with the scale, which
-is above 0, at its own led column and 0 at the other ones. Each of the rows is a
-sum of multiples of these, and each of these of the rows.
+The *reduced form* of rows is a tuple (leads, opened, form, scale). The leads are
+the led columns, ascending, and the opened ones the open columns. The form has one
+row for each of the leads, of which only the entries at the open columns are kept:
+at its own led column it has the scale, which is above 0, and 0 at the other ones.
+Each of the rows is a sum of multiples of these, and each of these of the rows.
 """
 
 from math import gcd
 
-# The prime 2 ** 61 - 1.
-PRIME = 2305843009213693951
+# The greatest prime below 2 ** 30: products of residues are reckoned fast.
+PRIME = 1073741789
 
 
 def product_of(row, other):
@@ -22,9 +23,52 @@ def divided(row):
     common = 0
     for entry in row:
         common = gcd(common, entry)
+        if common == 1:
+            return tuple(row)
     if common == 0:
         return tuple(row)
     return tuple([entry // common for entry in row])
+
+
+def _unlike(rows):
+    """The rows, of which equal ones are told once."""
+    return list({tuple(row): True for row in rows})
+
+
+def _parted_by_residues(rows, width, most):
+    """Rows that are free of one another modulo the prime, and the other rows.
+
+    Such rows are free of one another. Most often they are as many as can be, and
+    they are found fast where the integers are long. No more than `most` are taken.
+    """
+    leads = [None] * width
+    taken = []
+    others = []
+    for row in rows:
+        if len(taken) < most and _adds_lead(leads, [entry % PRIME for entry in row]):
+            taken.append(row)
+        else:
+            others.append(row)
+    return taken, others
+
+
+def _adds_lead(leads, left):
+    """Clears residues by those that lead at some columns; whether they lead at a further one.
+
+    The residues that lead at a column are kept from this column on.
+    """
+    start = 0
+    for column in range(len(leads)):
+        factor = left[column - start]
+        if factor != 0:
+            tail = left[column - start + 1:]
+            if leads[column] is None:
+                leads[column] = (factor, tail)
+                return True
+            head, above = leads[column]
+            left = [(head * entry - factor * against) % PRIME for entry, against in zip(tail, above)]
+            start = column + 1
+    return False
 
 
 def _row_with(rows, start, column):
@@ -39,143 +83,141 @@ def _swap(values, one, other):
     values[one], values[other] = values[other], values[one]
 
 
-def _free_by_residues(rows, width):
-    """Indices of rows that are free of one another modulo the prime.
-
-    Such rows are free of one another. Most often they are as many as can be, and
-    they are found fast where the integers are long.
-    """
-    left = [[entry % PRIME for entry in row] for row in rows]
-    order = list(range(len(rows)))
-    found = 0
-    for column in range(width):
-        at = _row_with(left, found, column)
-        if at is not None:
-            _swap(left, found, at)
-            _swap(order, found, at)
-            _clear_residues_below(left, found, column)
-            found += 1
-    return order[:found]
-
-
-def _clear_residues_below(left, top, column):
-    lead = left[top]
-    for at in range(top + 1, len(left)):
-        factor = left[at][column]
-        if factor != 0:
-            left[at] = [
-                (lead[column] * entry - factor * above) % PRIME
-                for entry, above in zip(left[at], lead)
-            ]
-
-
-def _combined(row, lead, column, scale):
-    """The row with 0 at the column, where the leading row is not 0.
-
-    The scale is the entry by which the step before led. It divides all entries,
-    because they are determinants of parts of the first rows.
-    """
-    factor = row[column]
-    return [
-        (lead[column] * entry - factor * above) // scale
-        for entry, above in zip(row, lead)
-    ]
-
-
 def _reduced_alone(rows, width):
     """The reduced form of rows, all of which are taken."""
     left = [list(divided(row)) for row in rows]
     leads = []
+    opened = []
     scale = 1
     for column in range(width):
-        top = len(leads)
-        at = _row_with(left, top, column)
-        if at is not None:
-            _swap(left, top, at)
-            _clear_others(left, top, column, scale)
-            scale = left[top][column]
+        # Led columns are left out of all rows, so this one stands behind the open ones.
+        at = _row_with(left, len(leads), len(opened))
+        if at is None:
+            opened.append(column)
+        else:
+            _swap(left, len(leads), at)
+            scale = _clear_others(left, len(leads), len(opened), scale)
             leads.append(column)
     form = left[:len(leads)]
     if scale < 0:
         form = [[-entry for entry in row] for row in form]
-    return leads, form, abs(scale)
+    return leads, opened, form, abs(scale)
 
 
 def _clear_others(left, top, column, scale):
+    """Clears a column of all rows but the top one, and leaves it out of all; the new scale.
+
+    The scale is the entry by which the step before led. It divides all entries,
+    because they are determinants of parts of the first rows.
+    """
+    lead = left[top].pop(column)
     for at in range(len(left)):
         if at != top:
-            left[at] = _combined(left[at], left[top], column, scale)
+            factor = left[at].pop(column)
+            if factor != 0 or lead != scale:
+                left[at] = _combined(factor, left[at], lead, left[top], scale)
+    return lead
+
+
+def _combined(factor, row, lead, above, scale):
+    """The row times the lead, less the row above times the factor, divided by the scale."""
+    return [(lead * entry - factor * against) // scale for entry, against in zip(row, above)]
 
 
 def reduced(rows, width):
     """The reduced form of rows of a width."""
-    taken = _free_by_residues(rows, width)
+    unlike = _unlike(rows)
+    if len(unlike) < width and _are_small(unlike):
+        # There are open columns then, and the residues would be no faster.
+        return _reduced_alone(unlike, width)
+    taken, others = _parted_by_residues(unlike, width, width)
+    if len(taken) == width:
+        return list(range(width)), [], [[] for _ in taken], 1
+    return _reduced_surely(taken, others, width)
+
+
+def _are_small(rows):
+    return all([-PRIME < min(row) and max(row) < PRIME for row in rows])
+
+
+def _reduced_surely(taken, others, width):
+    """The reduced form of rows that are free and of others that need not be sums of them."""
     while True:
-        found = _reduced_alone([rows[at] for at in taken], width)
-        further = _index_outside(rows, taken, _kernel_rows(found, width))
+        found = _reduced_alone(taken, width)
+        further = _row_outside(found, others)
         if further is None:
             return found
         # The residues have missed a row that is free of those taken.
         taken.append(further)
 
 
-def _index_outside(rows, taken, kernel_rows):
-    """The index of a row that is no sum of multiples of those taken, or None.
-
-    The kernel rows are those of the rows that are taken.
-    """
-    for at in range(len(rows)):
-        if at not in taken:
-            for kernel_row in kernel_rows:
-                if product_of(rows[at], kernel_row) != 0:
-                    return at
+def _row_outside(found, others):
+    """The first of other rows that is no sum of multiples of a reduced form, or None."""
+    for row in others:
+        if not _is_sum_within(found, row):
+            return row
     return None
 
 
-def _kernel_rows(found, width):
-    """The rows of the kernel of a reduced form, each with the scale at its open column."""
-    leads, form, scale = found
-    kernel_rows = []
-    for column in range(width):
-        if column not in leads:
-            entries = [0] * width
-            entries[column] = scale
-            for lead, row in zip(leads, form):
-                entries[lead] = -row[column]
-            kernel_rows.append(entries)
-    return kernel_rows
+def _is_sum_within(found, row):
+    """Whether a row is a sum of multiples of a reduced form: its entries at the led columns tell of which."""
+    leads, opened, form, scale = found
+    left = [scale * row[column] for column in opened]
+    for lead, ends in zip(leads, form):
+        factor = row[lead]
+        if factor != 0:
+            left = [entry - factor * end for entry, end in zip(left, ends)]
+    return not any(left)
 
 
 def kernel_of(rows, width):
     """The kernel of rows of a width: a row for each open column, without common divisors."""
-    found = reduced(rows, width)
-    return tuple([divided(entries) for entries in _kernel_rows(found, width)])
+    leads, opened, form, scale = reduced(rows, width)
+    return tuple([
+        _kernel_row(leads, [row[at] for row in form], opened[at], scale, width)
+        for at in range(len(opened))
+    ])
+
+
+def _kernel_row(leads, ends, column, scale, width):
+    """The row of the kernel for an open column, at which the form has some ends."""
+    common = scale
+    for end in ends:
+        common = gcd(common, end)
+    entries = [0] * width
+    entries[column] = scale // common
+    for lead, end in zip(leads, ends):
+        entries[lead] = -(end // common)
+    return tuple(entries)
 
 
 def rank_of(rows, width, most):
     """The rank of rows of a width, which is known to be at most `most`."""
-    sure = len(_free_by_residues(rows, width))
-    if sure in (most, width, len(rows)):
-        return sure
-    return len(reduced(rows, width)[0])
+    unlike = _unlike(rows)
+    taken, others = _parted_by_residues(unlike, width, min(most, width))
+    if len(taken) in (most, width, len(unlike)):
+        return len(taken)
+    return len(_reduced_surely(taken, others, width)[0])
 
 
 def determinant_of(table):
     """The determinant of a square table."""
-    left = [list(row) for row in table]
+    if len(table) == 0:
+        return 1
+    left = list(table)
     sign = 1
     scale = 1
-    for column in range(len(left)):
-        at = _row_with(left, column, column)
+    while len(left) > 1:
+        at = _row_with(left, 0, 0)
         if at is None:
             return 0
-        if at != column:
-            _swap(left, column, at)
+        if at > 0:
+            _swap(left, 0, at)
             sign = -sign
-        for below in range(column + 1, len(left)):
-            left[below] = _combined(left[below], left[column], column, scale)
-        scale = left[column][column]
-    return sign * scale
+        lead, *above = left[0]
+        left = [_combined(row[0], row[1:], lead, above, scale) for row in left[1:]]
+        scale = lead
+    return sign * left[0][0]
 
 
 def is_sum_of_squares(table):
@@ -199,9 +241,10 @@ def is_sum_of_squares(table):
 
 def _without_square(left, top, scale):
     """The table less the square that belongs to an entry of the diagonal."""
-    others = [at for at in range(len(left)) if at != top]
+    above = left.pop(top)
+    lead = above.pop(top)
     rows = []
-    for at in others:
-        row = _combined(left[at], left[top], top, scale)
-        rows.append([row[column] for column in others])
+    for row in left:
+        factor = row.pop(top)
+        rows.append(_combined(factor, row, lead, above, scale))
     return rows

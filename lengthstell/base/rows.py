@@ -10,7 +10,7 @@ from lengthstell.base.elimination import (
     rank_of,
     reduced,
 )
-from lengthstell.base.words import is_integer
+from lengthstell.base.words import are_integers, is_integer
 from lengthstell.errors import InvalidNumber, InvalidOperation
 
 MAX_ROWS = 60
@@ -48,10 +48,11 @@ def solution(rows, aims):
         raise InvalidOperation("the aims are not one integer for each row")
     width = _width_of(rows)
     wide = [row + (aim,) for row, aim in zip(rows, aims)]
-    leads, form, scale = reduced(wide, width + 1)
+    leads, _, form, scale = reduced(wide, width + 1)
     if width in leads:
         return None
-    return _least_solution(leads, [row[width] for row in form], scale, width)
+    # The aims stand behind all columns, so they are the last of the open ones.
+    return _least_solution(leads, [row[-1] for row in form], scale, width)
 
 
 def cleared(row):
@@ -76,17 +77,16 @@ def is_square_sum(table):
 
 
 def _is_row(value):
-    if not isinstance(value, tuple) or not 1 <= len(value) <= MAX_WIDTH:
-        return False
-    return all([is_integer(entry) for entry in value])
+    return isinstance(value, tuple) and 1 <= len(value) <= MAX_WIDTH and are_integers(value)
 
 
 def _are_rows(value):
     if not isinstance(value, tuple) or len(value) > MAX_ROWS:
         return False
-    if not all([_is_row(row) for row in value]):
-        return False
-    return all([len(row) == len(value[0]) for row in value])
+    for row in value:
+        if not _is_row(row) or len(row) != len(value[0]):
+            return False
+    return True
 
 
 def _check_rows(value):
@@ -107,9 +107,7 @@ def _width_of(rows):
 
 
 def _are_aims(rows, value):
-    if not isinstance(value, tuple) or len(value) != len(rows):
-        return False
-    return all([is_integer(aim) for aim in value])
+    return isinstance(value, tuple) and len(value) == len(rows) and are_integers(value)
 
 
 def _is_symmetric(table):

@@ -2,6 +2,8 @@
 
 MAX_DIGITS = 2000
 MAX_LETTERS = 4
+# Numbers of so many bits have fewer than 2000 digits.
+SURE_BITS = 6000
 
 
 def is_integer(value):
@@ -9,10 +11,19 @@ def is_integer(value):
     return isinstance(value, int) and not isinstance(value, bool) and has_digits(value, MAX_DIGITS)
 
 
+def are_integers(values):
+    """Whether all of some values are integers of at most 2000 digits."""
+    for value in values:
+        # Most often all are plain and short, so that this is all that is asked.
+        if type(value) is not int or value.bit_length() > SURE_BITS:
+            return all([is_integer(each) for each in values])
+    return True
+
+
 def has_digits(number, most):
     """Whether a number has at most so many digits."""
-    # A digit is a little more than 3.3219 bits, so the long comparison is seldom needed.
-    return 10000 * number.bit_length() <= 33219 * most or abs(number) < _least_longer(most)
+    # Three bits are less than a digit, so the long comparison is seldom needed.
+    return number.bit_length() <= 3 * most or abs(number) < _least_longer(most)
 
 
 def _least_longer(digits):
