@@ -292,6 +292,25 @@ class RowsTest(Refusals):
         self.assertEqual(solution(((PRIME, 0), (0, PRIME)), (1, 2)), ((1, 2), PRIME))
         self.assertEqual(determinant(((PRIME, 1), (0, PRIME))), PRIME ** 2)
 
+    def test_small_integers_whose_residues_mislead(self):
+        # The determinant of the first two is the prime, so that their residues are not free.
+        self.assertEqual(32768 * 32768 - 35, PRIME)
+        first, second, third, last = (32768, 35, 0), (1, 32768, 0), (0, 1, 0), (0, 0, 1)
+        self.assertEqual((rank((first[:2], second[:2])), determinant((first[:2], second[:2]))), (2, PRIME))
+        self.assertEqual(kernel((first[:2], second[:2]), 2), ())
+        multiples = tuple(tuple(by * entry for entry in second) for by in range(1, 9))
+        for rows in (
+            (first, second), (first, second, third), (first,) + multiples, (first,) + multiples + (third,),
+            (first, third) + multiples, (first,) + multiples + (third, last), multiples + (first, third),
+            (first,) + multiples[:4] + (third,) + multiples[4:], (last, first) + multiples + (third, last),
+        ):
+            free = 2 + int(last in rows)
+            self.assertEqual((rank(rows), are_free(rows)), (free, len(rows) == free))
+            self.check_rows(rows, 3)
+            aims = tuple(3 * row[0] - 2 * row[1] + row[2] for row in rows)
+            self.check_solution(rows, 3, aims)
+            self.check_solution(rows, 3, aims[:-1] + (aims[-1] + 1,))
+
     def test_wrong_rows(self):
         self.check_arguments(rank, [((), InvalidOperation, are_plain_rows)])
         self.check_arguments(are_free, [((), InvalidOperation, are_plain_rows)])

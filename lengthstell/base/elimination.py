@@ -11,6 +11,8 @@ from math import gcd
 
 # The greatest prime below 2 ** 30: products of residues are reckoned fast.
 PRIME = 1073741789
+# Behind so many rows that are not free, one behind the other, there are seldom others.
+PATIENCE = 4
 
 
 def product_of(row, other):
@@ -35,28 +37,30 @@ def _unlike(rows):
     return list({tuple(row): True for row in rows})
 
 
-def _parted_by_residues(rows, width, most):
-    """Rows that are free of one another modulo the prime, and the other rows.
+def _take_by_residues(rows, start, leads, taken, most, patience):
+    """Takes rows, from a start on, that are free of those taken modulo the prime.
 
-    Such rows are free of one another. Most often they are as many as can be, and
-    they are found fast where the integers are long. No more than `most` are taken.
+    Such rows are free of one another, and they are found fast. This ends, and the
+    index is told, where `most` rows are taken, or where so many rows as the
+    patience tells, one behind the other, have not been taken.
     """
-    leads = [None] * width
-    taken = []
-    others = []
-    for row in rows:
-        if len(taken) < most and _adds_lead(leads, [entry % PRIME for entry in row]):
-            taken.append(row)
-        else:
-            others.append(row)
-    return taken, others
+    idle = 0
+    for at in range(start, len(rows)):
+        if len(taken) >= most or idle == patience:
+            return at
+        idle += 1
+        if _adds_lead(leads, rows[at]):
+            taken.append(rows[at])
+            idle = 0
+    return len(rows)
 
 
-def _adds_lead(leads, left):
-    """Clears residues by those that lead at some columns; whether they lead at a further one.
+def _adds_lead(leads, row):
+    """Clears the residues of a row by those that lead at columns; whether they lead at a further one.
 
     The residues that lead at a column are kept from this column on.
     """
+    left = [entry % PRIME for entry in row]
     start = 0
     for column in range(len(leads)):
         factor = left[column - start]
@@ -124,38 +128,54 @@ def _combined(factor, row, lead, above, scale):
     return [(lead * entry - factor * against) // scale for entry, against in zip(row, above)]
 
 
-def reduced(rows, width):
-    """The reduced form of rows of a width."""
+def reduced(rows, width, likely):
+    """The reduced form of rows of a width, whose rank is most likely not above a number."""
     unlike = _unlike(rows)
     if len(unlike) < width and _are_small(unlike):
         # There are open columns then, and the residues would be no faster.
         return _reduced_alone(unlike, width)
-    taken, others = _parted_by_residues(unlike, width, width)
-    if len(taken) == width:
+    taken, found = _searched(unlike, width, likely, width)
+    if found is None:
         return list(range(width)), [], [[] for _ in taken], 1
-    return _reduced_surely(taken, others, width)
+    return found
 
 
 def _are_small(rows):
     return all([-PRIME < min(row) and max(row) < PRIME for row in rows])
 
 
-def _reduced_surely(taken, others, width):
-    """The reduced form of rows that are free and of others that need not be sums of them."""
+def _searched(rows, width, likely, most):
+    """Free rows of which all rows are sums of multiples, and the reduced form of them.
+
+    There is None for the form if `most` rows are free, as many as can be. The rank
+    is most likely not above `likely`. Residues that tell too little cost time only.
+    """
+    leads = [None] * width
+    taken = []
+    start = 0
+    # Where the integers are small, it is faster to look early whether no row is missed.
+    patience = PATIENCE if len(rows) > 2 * PATIENCE and _are_small(rows) else len(rows)
     while True:
+        start = _take_by_residues(rows, start, leads, taken, likely, patience)
+        if len(taken) == most:
+            return taken, None
         found = _reduced_alone(taken, width)
-        further = _row_outside(found, others)
-        if further is None:
-            return found
-        # The residues have missed a row that is free of those taken.
-        taken.append(further)
+        outside = _index_outside(found, rows)
+        if outside is None:
+            return taken, found
+        if not _adds_lead(leads, rows[outside]):
+            # Not all rows that are taken from here on need be free, so they are not counted.
+            most = None
+        taken.append(rows[outside])
+        start = max(start, outside + 1)
+        patience = len(rows)
 
 
-def _row_outside(found, others):
-    """The first of other rows that is no sum of multiples of a reduced form, or None."""
-    for row in others:
-        if not _is_sum_within(found, row):
-            return row
+def _index_outside(found, rows):
+    """The index of the first row that is no sum of multiples of a reduced form, or None."""
+    for at in range(len(rows)):
+        if not _is_sum_within(found, rows[at]):
+            return at
     return None
 
 
@@ -172,7 +192,7 @@ def _is_sum_within(found, row):
 
 def kernel_of(rows, width):
     """The kernel of rows of a width: a row for each open column, without common divisors."""
-    leads, opened, form, scale = reduced(rows, width)
+    leads, opened, form, scale = reduced(rows, width, width)
     return tuple([
         _kernel_row(leads, [row[at] for row in form], opened[at], scale, width)
         for at in range(len(opened))
@@ -194,10 +214,11 @@ def _kernel_row(leads, ends, column, scale, width):
 def rank_of(rows, width, most):
     """The rank of rows of a width, which is known to be at most `most`."""
     unlike = _unlike(rows)
-    taken, others = _parted_by_residues(unlike, width, min(most, width))
-    if len(taken) in (most, width, len(unlike)):
+    greatest = min(most, width, len(unlike))
+    taken, found = _searched(unlike, width, greatest, greatest)
+    if found is None:
         return len(taken)
-    return len(_reduced_surely(taken, others, width)[0])
+    return len(found[0])
 
 
 def determinant_of(table):

@@ -48,7 +48,7 @@ def solution(rows, aims):
         raise InvalidOperation("the aims are not one integer for each row")
     width = _width_of(rows)
     wide = [row + (aim,) for row, aim in zip(rows, aims)]
-    leads, _, form, scale = reduced(wide, width + 1)
+    leads, _, form, scale = reduced(wide, width + 1, width)
     if width in leads:
         return None
     # The aims stand behind all columns, so they are the last of the open ones.
