@@ -96,6 +96,17 @@ class BuildRowTest(Refusals):
             self.assertIs(is_build_row(frame, row), True)
             self.assertEqual(frame_built(row), frame)
 
+    def test_pairs_that_will_not_do(self):
+        # Each pin has three rods or more, and the first pair without a rod often will not do.
+        for text in (
+            "ab ac af bd bh cd ch dg dh ef eg eh fg", "ab ad ae af bd be bg cd ce ch fg fh gh",
+            "ab ad ae bf bg ce cf ch df dg dh eh fg", "ac ad ae af bd be bg cg ch df ef fh gh",
+            "af ag ah bd be bf bg cd ce ch dh ef eg",
+        ):
+            frame = Frame(tuple("abcdefgh"), pairs(text))
+            self.assertEqual(min(len(frame.neighbours(pin)) for pin in frame.pins), 3)
+            self.check_frame(frame)
+
     def test_rows_of_others(self):
         rng = random.Random(62)
         for _ in range(200):
@@ -143,7 +154,7 @@ class BuildRowTest(Refusals):
             ("three", "d", "a", "b"), ("three", "d", "b", "a", "c"), ("three", "d", "a", "b", "a"),
             ("three", "d", "a", "b", "b"), ("three", "d", "a", "b", "x"), ("three", "d", "a", "b", "c", "c"),
             ("three", "c", "a", "b", "c"), ("three", "d", "a", "a", "c"), ["three", "d", "a", "b", "c"],
-            ("three", "d", "a", "b", None), ("three", "d", "a", "b", ["c"]), ("four", "d", "a", "b"),
+            ("three", "d", "a", "c", "a"), ("three", "d", "a", "c", "c"), ("three", "d", "a", "b", None), ("three", "d", "a", "b", ["c"]), ("four", "d", "a", "b"),
             ("start", "d", "a", "b"), ("start", "d", "e"), (), ("two",), None, True, "two", ("", "d", "a", "b"),
             (["two"], "d", "a", "b"), (FOUR, "d", "a", "b"),
         ):
@@ -202,6 +213,15 @@ class FreePlacingTest(Refusals):
         for frame in frames + list(NAMED):
             self.check_frame(frame, space=2)
             self.check_frame(frame, space=1)
+
+    def test_frames_for_which_not_each_spot_will_do(self):
+        # On the first spots of the grid that are on no line the rank is too small.
+        for text in (
+            "ab ac ae bc bd cf de df ef", "ab ad ae bc be cd cf df ef", "ab ad af bc bf cd ce de ef",
+            "ac ad ae bc be bf cd df ef", "ac ad af bc bd be ce df ef", "ab ac ae af bd bf cg de dg eg fg",
+        ):
+            rods = pairs(text)
+            self.check_frame(Frame(tuple(sorted({pin for rod in rods for pin in rod})), rods), 2)
 
     def check_frame(self, frame, space):
         placing = free_placing(frame, space=space)

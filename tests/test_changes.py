@@ -306,6 +306,9 @@ class ChangesTest(Refusals):
         none = {rod: 0 for rod in FOUR}
         self.assertIs(is_change_paper(FOUR, SQUARE, none, ("balance", HOLD)), False)
         self.assertIs(is_change_paper(FOUR, SQUARE, none, ("velocities", {pin: (1, 1) for pin in "abcd"}, 3)), True)
+        for scale in (0, -1, -3, True, None):
+            value = ("velocities", {pin: (1, 1) for pin in "abcd"}, scale)
+            self.assertIs(is_change_paper(FOUR, SQUARE, none, value), False)
         for value in WRONG:
             self.assertIs(is_change_paper(FOUR, SQUARE, ONE, value), False)
 

@@ -154,7 +154,7 @@ class StepsTest(Refusals):
     def test_rows_that_are_wrong_in_one_place(self):
         wrong = [
             (), list(ROW), ROW[1:], (list(FULL),), FULL, (("full", "a", "b", "c"),), (("full", "a", "b", "c", "d", "e"),),
-            (("full", "a", "b", "d", "c"),), (("full", "a", "b", "c", "c"),), (("full", "a", "b", "c", "ddddd"),),
+            (("full", "b", "a", "c", "d"),), (("full", "a", "b", "d", "c"),), (("full", "a", "b", "c", "c"),), (("full", "a", "b", "c", "ddddd"),),
             (("full", "a", "b", "c", 4),), (("Full", "a", "b", "c", "d"),), (None,), None, (FULL, FULL),
             (("full", "a", "b", "c", True),), (("three", "e", "b", "d", "a"),), ((),), ("full",),
         ]

@@ -253,6 +253,8 @@ class ToldTest(Refusals):
         self.assertIs(is_told_paper(TWIN, right[0], space=1), False)
         self.assertIs(is_told_paper(BOW, ("cut", ("c",), ("a", "b")), space=1), True)
         self.assertIs(is_told_paper(BOW, ("cut", ("c",), ("a",)), space=1), False)
+        for value in (("cut", ("a", "b"), ("a", "c")), ("cut", ("a", "b"), ("b",)), ("Cut", ("a", "b"), ("c",))):
+            self.assertIs(is_told_paper(LOOSE_EIGHT, value), False)
         # Several pieces can be on one side.
         self.assertIs(is_told_paper(LOOSE_EIGHT, ("cut", ("c", "f"), ("a", "b", "g"))), True)
 
@@ -269,12 +271,12 @@ class ToldTest(Refusals):
             ("needed", ("a", "b"), (list(SINGLES[0]),) + SINGLES[1:]), ("needed", ("a", "b"), ((),) + SINGLES),
             ("needed", ("a", "b")), ("needed", SINGLES), ("needed", None, SINGLES), ("needed", ("a", "b"), None),
             ("loose", SINGLES), ("loose", (pairs("ab"),) + SINGLES), ("loose", (KITE.rods,)), ("loose",),
-            ("loose", SINGLES, ()), ("loose", None), ("loose", KITE), ["loose", SINGLES], (True, SINGLES),
+            ("Needed", ("a", "b"), SINGLES), ("loose", SINGLES, ()), ("loose", None), ("loose", KITE), ["loose", SINGLES], (True, SINGLES),
         )
         for value in wrong:
             self.assertIs(is_told_paper(KITE, value), False)
         rods = tuple((rod,) for rod in RING.rods)
-        for value in (("loose", rods[1:]), ("loose", (RING.rods,)), ("loose", rods[::-1]), ("loose", list(rods)),
+        for value in (("loose", rods, ()), ("Loose", rods), ("told", rods), (True, rods), ("loose", rods[1:]), ("loose", (RING.rods,)), ("loose", rods[::-1]), ("loose", list(rods)),
                       ("loose", (tuple(reversed(pairs("ab ad"))), pairs("bc"), pairs("cd"))),
                       ("loose", rods[:3] + (pairs("cd ce"),)), ("loose", rods[:3] + (pairs("dc"),))):
             self.assertIs(is_told_paper(RING, value), False)

@@ -3,10 +3,10 @@
 from math import gcd
 
 from lengthstell.count.blocks import is_circuit
-from lengthstell.errors import InvalidOperation, Refused, TooMany
+from lengthstell.errors import InvalidOperation, Refused
 from lengthstell.frame.checks import check_frame
 from lengthstell.frame.cuts import cuts, sides
-from lengthstell.frame.frames import MAX_PINS, Frame, is_lot_of
+from lengthstell.frame.frames import Frame, is_lot_of
 from lengthstell.place.checks import check_weights
 
 
@@ -72,16 +72,15 @@ def check_common(one, other, many):
 
 
 def _common_rod(one, other):
-    """The rod that two frames have in common; refuses frames that have no two-sum."""
+    """The rod that two frames have in common; refuses frames without just one."""
     pair = check_common(one, other, 2)
     if pair not in one.rods or pair not in other.rods:
         raise Refused(("rod", pair))
-    if len(one.pins) + len(other.pins) - 2 > MAX_PINS:
-        raise TooMany(MAX_PINS)
     return pair
 
 
 def _summed(one, other, rod):
+    """The two-sum of frames with a common rod; joining them refuses too many pins."""
     whole = one | other
     return whole.without_rod(rod[0], rod[1])
 

@@ -1,6 +1,6 @@
 """Steps by which all frames come that are told in the plane."""
 
-from lengthstell.base.words import is_lot, is_name, is_pair
+from lengthstell.base.words import is_lot, is_name
 from lengthstell.errors import InvalidName, InvalidPlacing, InvalidStep, Refused, TooMany, UnknownName
 from lengthstell.frame.checks import check_frame, check_rod
 from lengthstell.frame.frames import MAX_PINS, Frame, pairs_among
@@ -126,7 +126,7 @@ def _is_rod_step(frame, step):
     """Whether a value is a step that adds a rod to the frame."""
     if not isinstance(step, tuple) or len(step) != 3 or step[0] != "rod":
         return False
-    return is_pair(step[1:]) and step[1:] in frame.missing
+    return step[1:] in frame.missing
 
 
 def _is_three_step(frame, step):
