@@ -19,7 +19,8 @@ def right_rows(frame, *, space=2):
     check_frame(frame)
     check_space(space)
     check_few_pins(frame)
-    if len(frame.pins) > space + 1 and is_cut_somewhere(frame.pins, frame.rods, space):
+    # At most space + 1 pins are cut by no lot of as many pins as the space tells.
+    if is_cut_somewhere(frame.pins, frame.rods, space):
         return None
     attempt = 0
     rows = None
