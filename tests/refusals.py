@@ -11,6 +11,7 @@ from lengthstell.errors import (
     UnknownName,
 )
 from lengthstell.frame.frames import Frame
+from lengthstell.ground.stands import Stand
 from tests.examples import FOUR, KITE, SINGLE, SQUARE, TOO_LONG
 
 KEPT = {
@@ -42,6 +43,9 @@ WRONG = (
     nested(1, 9), nested((), 9), nested("a", 9), nested({}, 8),
     FOUR, KITE, SINGLE, (FOUR,), [FOUR], {"a": FOUR}, ("a", FOUR), (("a", FOUR),),
     Frame(("x",)), UnknownName("a"), InvalidNumber(1), (TooMany(8),),
+    Stand(FOUR, {"a": 2}), (Stand(SINGLE, {}),), ("rod", "a", "b"), ("slide", "a", True), (("rod", "a", "b"),),
+    (("slide", "a", False),), {("slide", "a", True): "a"}, {"a": ((1, 0), (0, 1))}, (SQUARE, {}), (SQUARE, {"a": ((0, 0),)}),
+    (("a",), ()), ((), ("b", "a")), {"a": True}, {"z": 1},
 )
 
 
@@ -54,6 +58,8 @@ def told(value):
     """What can be seen of a value, to compare it with what it is later."""
     if isinstance(value, Frame):
         return ("frame", value.pins, value.rods)
+    if isinstance(value, Stand):
+        return ("stand", told(value.frame), told(value.slides), value.ties)
     if isinstance(value, dict):
         return ("dict", [(told(key), told(value[key])) for key in value])
     if isinstance(value, (tuple, list)):
@@ -134,6 +140,10 @@ class Refusals(unittest.TestCase):
 
 def is_frame(value):
     return isinstance(value, Frame)
+
+
+def is_stand(value):
+    return isinstance(value, Stand)
 
 
 def is_space_number(value):

@@ -65,13 +65,43 @@ INTERFACE = {
         "shows(frame, placing, rod)", "proportion(frame, placing, one, other)", "mistaken(frame, placing)",
         "answer_pace(frame, placing, driven, watched)",
     ),
+    "lengthstell.ground.stands": (
+        "Stand(frame, slides)", "stand_rank(stand)", "is_firm_stand(stand)", "is_just_firm(stand)",
+        "spare_ties(stand)", "stand_parting(stand)", "is_stand_parting(stand, value)",
+    ),
+    "lengthstell.ground.places": (
+        "is_place(stand, value)", "stand_rows(stand, place)", "rank_at_place(stand, place)",
+        "is_firm_at_place(stand, place)", "stand_place(stand)",
+    ),
+    "lengthstell.ground.parts": (
+        "heads(stand)", "are_heads(stand, value)", "may_bear(stand)", "parts(stand)", "part_of(stand, pin)",
+        "part_of_tie(stand, tie)", "led_to(stand, lot)", "leading_to(stand, lot)", "is_closed(stand, value)",
+        "closed_lots(stand)", "below(stand, lot)", "rest(stand, lot)",
+    ),
+    "lengthstell.drive.drivers": (
+        "moved(stand, driven)", "still(stand, driven)", "is_still_lot(stand, driven, value)",
+        "velocities(stand, place, paces)", "pair_pace(stand, place, paces, one, other)",
+        "driven_paper(stand, driven)", "is_driven_paper(stand, driven, value)",
+    ),
 }
 
-METHODS = (
-    "full(pins)", "neighbours(self, pin)", "with_rod(self, one, other)", "without_rod(self, one, other)",
-    "with_pin(self, pin, *neighbours)", "coned(self, pin)", "without_pin(self, pin)", "part(self, lot)",
-    "renamed(self, names)",
-)
+METHODS = {
+    "lengthstell.frame.frames.Frame": (
+        "full(pins)", "neighbours(self, pin)", "with_rod(self, one, other)", "without_rod(self, one, other)",
+        "with_pin(self, pin, *neighbours)", "coned(self, pin)", "without_pin(self, pin)", "part(self, lot)",
+        "renamed(self, names)", "__or__(self, other)", "__contains__(self, x)", "__len__(self)", "__iter__(self)",
+        "__eq__(self, other)", "__str__(self)",
+    ),
+    "lengthstell.ground.stands.Stand": (
+        "held_at(frame, lot)", "with_tie(self, tie)", "without_tie(self, tie)", "__contains__(self, x)",
+        "__len__(self)", "__iter__(self)", "__eq__(self, other)", "__str__(self)",
+    ),
+}
+
+PROPERTIES = {
+    "lengthstell.frame.frames.Frame": ("pins", "rods", "missing", "is_full"),
+    "lengthstell.ground.stands.Stand": ("frame", "slides", "ties", "held", "inner"),
+}
 
 CONSTANTS = {
     "lengthstell.base.words": {"MAX_DIGITS": 2000, "MAX_LETTERS": 4},
@@ -94,12 +124,21 @@ class InterfaceTest(unittest.TestCase):
                 self.assertEqual(found.__module__, name)
                 self.assertEqual(f"{word}{inspect.signature(found)}", head)
 
-    def test_methods_of_frames(self):
-        frame = importlib.import_module("lengthstell.frame.frames").Frame
-        for head in METHODS:
-            word = head.partition("(")[0]
-            self.assertIn(word, vars(frame))
-            self.assertEqual(f"{word}{inspect.signature(getattr(frame, word))}", head)
+    def test_methods(self):
+        for name, listed in METHODS.items():
+            module, _, word = name.rpartition(".")
+            owner = getattr(importlib.import_module(module), word)
+            for head in listed:
+                word = head.partition("(")[0]
+                self.assertIn(word, vars(owner))
+                self.assertEqual(f"{word}{inspect.signature(getattr(owner, word))}", head)
+
+    def test_properties(self):
+        for name, listed in PROPERTIES.items():
+            module, _, word = name.rpartition(".")
+            owner = getattr(importlib.import_module(module), word)
+            for word in listed:
+                self.assertIsInstance(vars(owner)[word], property)
 
     def test_constants(self):
         for name, values in CONSTANTS.items():

@@ -18,6 +18,7 @@ METHODS = set(
     " isupper items join keys ljust lower lstrip partition pop remove replace reverse rfind rjust rpartition"
     " rsplit rstrip setdefault split splitlines startswith strip update upper values zfill bit_length".split()
 )
+GENERATORS = ["closed_lots", "moved_lots", "told_lots"]
 DUNDERS = set(
     "__init__ __eq__ __repr__ __str__ __len__ __enter__ __exit__ __iter__ __or__ __contains__".split()
 )
@@ -32,7 +33,7 @@ BARRED_WORDS = re.compile(
 )
 BARRED_NODES = (
     ast.Lambda, ast.GeneratorExp, ast.AsyncFunctionDef, ast.Await, ast.AsyncFor, ast.AsyncWith, ast.Global,
-    ast.Nonlocal, ast.Try, ast.With, ast.YieldFrom, ast.NamedExpr, ast.Div, ast.MatMult, ast.Set,
+    ast.Nonlocal, ast.With, ast.YieldFrom, ast.NamedExpr, ast.Div, ast.MatMult, ast.Set,
     ast.AnnAssign, ast.Import, ast.Delete, ast.Match,
 )
 
@@ -189,7 +190,7 @@ class LanguageTest(unittest.TestCase):
                     made[function.name] = path
                     self.assertEqual(function.decorator_list, [])
                     self.assertTrue(all(isinstance(above[node], ast.Expr) for node in inner), path)
-        self.assertEqual(sorted(made), ["told_lots"])
+        self.assertEqual(sorted(made), GENERATORS)
         names = [function.name for _, tree in trees() for function in functions(tree)]
         for name in made:
             self.assertEqual(names.count(name), 1)
@@ -198,6 +199,65 @@ class LanguageTest(unittest.TestCase):
             for node in ast.walk(tree):
                 if isinstance(node, ast.Name):
                     self.assertNotIn(node.id, made, path)
+
+    def test_only_own_errors_are_caught(self):
+        own = {node.name for node in ast.parse((FOLDER / "errors.py").read_text()).body
+               if isinstance(node, ast.ClassDef)}
+        for path, tree in trees():
+            for node in ast.walk(tree):
+                if isinstance(node, ast.Try):
+                    self.assertFalse(node.finalbody)
+                    self.assertTrue(all(isinstance(part, ast.Return) for part in node.body), path)
+                    for handler in node.handlers:
+                        named = handler.type.elts if isinstance(handler.type, ast.Tuple) else [handler.type]
+                        self.assertLessEqual({name.id for name in named}, own, path)
+
+    def test_starred_calls(self):
+        for path, tree in trees():
+            for node in ast.walk(tree):
+                if isinstance(node, ast.Call):
+                    for arg in node.args:
+                        if isinstance(arg, ast.Starred):
+                            inner = arg.value.value if isinstance(arg.value, ast.Attribute) else arg.value
+                            self.assertIsInstance(inner, ast.Name, f"{path}:{node.lineno}")
+                    self.assertTrue(all(keyword.arg is not None for keyword in node.keywords), path)
+
+    def test_double_underscore_methods(self):
+        for path, tree in trees():
+            for owner in [node for node in ast.walk(tree) if isinstance(node, ast.ClassDef)]:
+                for method in [part for part in owner.body if isinstance(part, ast.FunctionDef)]:
+                    where = f"{path} {owner.name}.{method.name}"
+                    last = method.body[-1]
+                    if method.name in ("__len__", "__iter__"):
+                        self.assertEqual(len(method.body), 1, where)
+                        self.assertEqual(last.value.func.id, method.name.strip("_"), where)
+                        kept = last.value.args[0]
+                        self.assertTrue(kept.value.id == "self" and kept.attr.startswith("_"), where)
+                    if method.name == "__exit__":
+                        self.assertTrue(all(isinstance(part, ast.Assign) for part in method.body), where)
+                        self.assertTrue(all(isinstance(part.value, ast.Constant) for part in method.body), where)
+                    if method.name in ("__str__", "__eq__", "__contains__"):
+                        self.assertIsInstance(last, ast.Return, where)
+                    changing = (ast.Assign, ast.AugAssign)
+                    if method.name in ("__str__", "__eq__", "__contains__", "__len__", "__iter__") or method.decorator_list:
+                        for part in ast.walk(method):
+                            if isinstance(part, changing):
+                                target = part.targets[0] if isinstance(part, ast.Assign) else part.target
+                                self.assertIsInstance(target, ast.Name, where)
+
+    def test_properties_and_methods_have_unlike_names(self):
+        methods, properties, kept = set(), set(), set()
+        for _, tree in trees():
+            for owner in [node for node in ast.walk(tree) if isinstance(node, ast.ClassDef)]:
+                for part in owner.body:
+                    if isinstance(part, ast.FunctionDef):
+                        names = [decorator.id for decorator in part.decorator_list]
+                        (properties if names == ["property"] else methods).add(part.name)
+            kept |= {node.attr for node in ast.walk(tree)
+                     if isinstance(node, ast.Attribute) and isinstance(node.ctx, ast.Store)}
+        self.assertFalse(properties & methods)
+        self.assertFalse(properties & METHODS)
+        self.assertFalse(kept & (methods | properties))
 
     def test_decorators_and_annotations(self):
         for path, tree in trees():

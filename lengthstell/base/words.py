@@ -66,3 +66,19 @@ def is_space(value):
 def is_ascending(values):
     """Whether each of some values, all of one kind, is less than the next one."""
     return all([values[at] < values[at + 1] for at in range(len(values) - 1)])
+
+
+def is_lot_among(values, value):
+    """Whether the value is an ascending tuple of some of the values, perhaps empty."""
+    return isinstance(value, tuple) and all([each in values for each in value]) and is_ascending(value)
+
+
+def lots_by_length(values):
+    """All tuples of some of the values, in their order, the shorter ones first.
+
+    Those of equal length stand in the order of the values, if these ascend.
+    """
+    lots = [()]
+    for value in values:
+        lots = lots + [lot + (value,) for lot in lots]
+    return [lot for _, lot in sorted([(len(lot), lot) for lot in lots])]

@@ -1,7 +1,7 @@
 """Blocks, partings, spare rods and circuits of frames."""
 
 from lengthstell.base.fullness import full_count
-from lengthstell.base.words import is_ascending
+from lengthstell.base.words import is_ascending, is_lot_among
 from lengthstell.count.pebbling import clear_pins, ends_of, played
 from lengthstell.errors import InvalidOperation
 from lengthstell.frame.checks import check_frame, check_rod, check_space
@@ -132,17 +132,10 @@ def _block_around(pins, rods, rod):
 
 def _is_some_parting(rods, value):
     """Whether the value is a parting of some of the rods."""
-    if not isinstance(value, tuple) or not all([_is_rod_lot(rods, lot) for lot in value]):
+    if not isinstance(value, tuple) or not all([is_lot_among(rods, lot) and lot != () for lot in value]):
         return False
     told = [rod for lot in value for rod in lot]
     return is_ascending(value) and len(set(told)) == len(told)
-
-
-def _is_rod_lot(rods, value):
-    """Whether the value is a lot of some of the rods, and not empty."""
-    if not isinstance(value, tuple) or len(value) == 0:
-        return False
-    return all([rod in rods for rod in value]) and is_ascending(value)
 
 
 def _joined(lots, circuit):

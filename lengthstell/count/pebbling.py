@@ -30,6 +30,14 @@ def clear_pins(tails, rod, space):
     return _clear_pin(tails, rod[1], rod, space) and first
 
 
+def makes_room(tails, pin, kept, space):
+    """Moves a tail away from a pin if it bears as many as it can; whether it can bear one more.
+
+    The tail goes to none of the pins that are kept.
+    """
+    return _load(tails, pin) < space or _move_tail(tails, pin, kept, space)
+
+
 def ends_of(rods):
     """The lot of the pins of some rods."""
     return tuple(sorted({pin for rod in rods for pin in rod}))

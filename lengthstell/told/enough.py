@@ -1,6 +1,6 @@
 """Rods that are enough to make a frame told, and rods that can go."""
 
-from lengthstell.base.words import is_ascending, is_pair
+from lengthstell.base.words import is_ascending, is_lot_among, is_pair, lots_by_length
 from lengthstell.errors import InvalidOperation, TooMany
 from lengthstell.frame.checks import check_frame, check_space
 from lengthstell.told.telling import is_told_by_counts
@@ -75,7 +75,7 @@ def meeting_lots(lots):
 
 def _check_offered(frame, offered, space):
     check_frame(frame)
-    if not _is_lot_among(frame.missing, offered):
+    if not is_lot_among(frame.missing, offered):
         raise InvalidOperation("the offered pairs are no lot of pairs of pins that are no rods")
     check_space(space)
     _check_few(offered)
@@ -89,18 +89,11 @@ def _check_few(lot):
 def _enough_of_doubtful(frame, doubtful, space):
     """The least lots of doubtful rods that make the frame without all of these told."""
     check_frame(frame)
-    if not _is_lot_among(frame.rods, doubtful):
+    if not is_lot_among(frame.rods, doubtful):
         raise InvalidOperation("the doubtful rods are no lot of rods")
     check_space(space)
     _check_few(doubtful)
     return _least_telling(frame.pins, _without(doubtful, frame.rods), doubtful, space)
-
-
-def _is_lot_among(pairs, value):
-    """Whether the value is a lot of some of the pairs, perhaps empty."""
-    if not isinstance(value, tuple) or not all([pair in pairs for pair in value]):
-        return False
-    return is_ascending(value)
 
 
 def _without(lot, pairs):
@@ -117,18 +110,10 @@ def _rests(pairs, lots):
     return tuple(sorted([_without(lot, pairs) for lot in lots]))
 
 
-def _lots_by_length(pairs):
-    """All lots of some of the pairs, the shorter ones first."""
-    lots = [()]
-    for pair in pairs:
-        lots = lots + [lot + (pair,) for lot in lots]
-    return [lot for _, lot in sorted([(len(lot), lot) for lot in lots])]
-
-
 def _least_telling(pins, rods, offered, space):
     """The least lots of offered pairs that make a frame told."""
     least = []
-    for lot in _lots_by_length(offered):
+    for lot in lots_by_length(offered):
         # A told frame stays told with each further rod, so only the others are looked at.
         if not _has_one_within(least, lot) and is_told_by_counts(pins, rods + lot, space):
             least.append(lot)
@@ -142,13 +127,13 @@ def _has_one_within(lots, other):
 def _all_telling(pins, rods, offered, space):
     """All lots of offered pairs that make a frame told, the shorter ones first."""
     least = _least_telling(pins, rods, offered, space)
-    return [lot for lot in _lots_by_length(offered) if _has_one_within(least, lot)]
+    return [lot for lot in lots_by_length(offered) if _has_one_within(least, lot)]
 
 
 def _greatest_lacking(offered, least):
     """The greatest lots of offered pairs that have none of the least lots within them."""
     found = []
-    for lot in reversed(_lots_by_length(offered)):
+    for lot in reversed(lots_by_length(offered)):
         if not _has_one_within(least, lot) and not any([_is_within(lot, other) for other in found]):
             found.append(lot)
     return tuple(sorted(found))

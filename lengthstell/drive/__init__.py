@@ -1,0 +1,1 @@
+"""Ties of stands that are driven, and the moves that this makes."""
