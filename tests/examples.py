@@ -101,3 +101,10 @@ def random_placing(rng, frame, space, size):
         pin: tuple(rng.randrange(-size, size + 1) for _ in range(space))
         for pin in frame.pins
     }
+
+
+def nested_tuples(deep, inner=1):
+    """The inner value in so many tuples of one."""
+    for _ in range(deep):
+        inner = (inner,)
+    return inner

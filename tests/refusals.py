@@ -2,6 +2,7 @@
 
 import unittest
 
+from lengthstell.book.desks import Desk, Lot
 from lengthstell.errors import (
     InvalidNumber,
     NothingToUndo,
@@ -12,6 +13,7 @@ from lengthstell.errors import (
 )
 from lengthstell.frame.frames import Frame
 from lengthstell.ground.stands import Stand
+from lengthstell.text.shell import Shell
 from tests.examples import FOUR, KITE, SINGLE, SQUARE, TOO_LONG
 
 KEPT = {
@@ -45,7 +47,8 @@ WRONG = (
     Frame(("x",)), UnknownName("a"), InvalidNumber(1), (TooMany(8),),
     Stand(FOUR, {"a": 2}), (Stand(SINGLE, {}),), ("rod", "a", "b"), ("slide", "a", True), (("rod", "a", "b"),),
     (("slide", "a", False),), {("slide", "a", True): "a"}, {"a": ((1, 0), (0, 1))}, (SQUARE, {}), (SQUARE, {"a": ((0, 0),)}),
-    (("a",), ()), ((), ("b", "a")), {"a": True}, {"z": 1},
+    (("a",), ()), ((), ("b", "a")), {"a": True}, {"z": 1}, Desk(FOUR), Desk(FOUR).lot(), Shell(SINGLE), (Desk(SINGLE),),
+    ("firm", True), ("told", 3), ("few", 29), ("rod", ("b", "a")), ("pin", "a", ("b", "b")),
 )
 
 
@@ -60,6 +63,10 @@ def told(value):
         return ("frame", value.pins, value.rods)
     if isinstance(value, Stand):
         return ("stand", told(value.frame), told(value.slides), value.ties)
+    if isinstance(value, (Desk, Shell)):
+        return (value.__class__.__name__, told(value.frame), value.promises, value.version, len(value))
+    if isinstance(value, Lot):
+        return ("lot", told(value.frame), value.is_open)
     if isinstance(value, dict):
         return ("dict", [(told(key), told(value[key])) for key in value])
     if isinstance(value, (tuple, list)):

@@ -83,6 +83,21 @@ INTERFACE = {
         "velocities(stand, place, paces)", "pair_pace(stand, place, paces, one, other)",
         "driven_paper(stand, driven)", "is_driven_paper(stand, driven, value)",
     ),
+    "lengthstell.drive.wishes": (
+        "movers(stand, pin)", "moved_lots(stand)", "drivers_of(stand, lot)", "barred_move(stand, lot)",
+        "is_barred_move(stand, lot, value)", "fewest_drivers(stand, wished)",
+        "are_fewest_drivers(stand, wished, value)", "exchanged(stand, tie, new)",
+    ),
+    "lengthstell.book.promises": (
+        "is_promise(value)", "does_hold(frame, promise)", "paper_against(frame, promise)",
+        "is_paper_against(frame, promise, value)",
+    ),
+    "lengthstell.book.desks": ("Desk(frame)", "Lot(desk)"),
+    "lengthstell.text.formats": (
+        "write_frame(frame)", "read_frame(text)", "write_stand(stand)", "read_stand(text)", "is_data(value)",
+        "write_data(value)", "read_data(text)",
+    ),
+    "lengthstell.text.shell": ("Shell(frame)",),
 }
 
 METHODS = {
@@ -96,11 +111,23 @@ METHODS = {
         "held_at(frame, lot)", "with_tie(self, tie)", "without_tie(self, tie)", "__contains__(self, x)",
         "__len__(self)", "__iter__(self)", "__eq__(self, other)", "__str__(self)",
     ),
+    "lengthstell.book.desks.Desk": (
+        "do(self, deeds)", "would(self, deeds)", "promise(self, promise)", "drop(self, promise)", "undo(self, count=1)",
+        "at(self, version)", "lot(self)", "__contains__(self, x)", "__len__(self)", "__iter__(self)",
+        "__eq__(self, other)", "__str__(self)",
+    ),
+    "lengthstell.book.desks.Lot": (
+        "add(self, deed)", "end(self)", "drop(self)", "__enter__(self)", "__exit__(self, kind, value, trace)",
+    ),
+    "lengthstell.text.shell.Shell": ("say(self, line)", "run(self, lines)", "__len__(self)", "__str__(self)"),
 }
 
 PROPERTIES = {
     "lengthstell.frame.frames.Frame": ("pins", "rods", "missing", "is_full"),
     "lengthstell.ground.stands.Stand": ("frame", "slides", "ties", "held", "inner"),
+    "lengthstell.book.desks.Desk": ("frame", "promises", "version"),
+    "lengthstell.book.desks.Lot": ("frame", "is_open"),
+    "lengthstell.text.shell.Shell": ("frame", "promises", "version"),
 }
 
 CONSTANTS = {
@@ -110,6 +137,10 @@ CONSTANTS = {
     "lengthstell.told.rows": {"MOST_MADE": 7},
     "lengthstell.told.enough": {"MOST_OFFERED": 5, "MOST_LOTS": 40, "MOST_MEMBERS": 10},
     "lengthstell.small.changes": {"MAX_DIGITS": 140},
+    "lengthstell.book.promises": {"MAX_FEW": 28},
+    "lengthstell.book.desks": {"MAX_PROMISES": 8, "MAX_DEEDS": 20},
+    "lengthstell.text.formats": {"MAX_TEXT": 100000, "MAX_STRING": 40, "MAX_DEEP": 8},
+    "lengthstell.text.shell": {"MAX_LINE": 2000, "MAX_LINES": 100},
 }
 
 

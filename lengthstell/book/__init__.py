@@ -1,0 +1,1 @@
+"""Promises about frames, and desks that keep them."""

@@ -1,0 +1,1 @@
+"""Texts of frames, stands and data, and a shell that is told lines."""
