@@ -145,6 +145,13 @@ class DesksTest(Refusals):
         self.assertEqual(desk.do(deeds=(("no rod", CD), ("pin", "x", ("a", "c", "d", "e")))), 3)
         self.assertEqual(desk.frame, Frame(("a", "c", "d", "e", "x"), pairs("ac ad ae ax cx dx ex")))
 
+    def test_longer_names(self):
+        desk = Desk(Frame(("ab", "c", "wxyz"), (("ab", "c"),)))
+        self.assertEqual(desk.do((("rod", ("c", "wxyz")), ("pin", "zz", ("ab", "wxyz")), ("no rod", ("ab", "c")), ("no pin", "ab"))), 1)
+        self.assertEqual(desk.frame, Frame(("c", "wxyz", "zz"), (("c", "wxyz"), ("wxyz", "zz"))))
+        self.refused(Refused, desk.do, (("no pin", "cc"),), kept=("deed", 0, "unknown"))
+        self.refused(Refused, desk.do, (("pin", "d", ("cc",)),), kept=("deed", 0, "unknown"))
+
     def test_words_of_deeds_that_fail(self):
         cases = (
             (KITE, ("rod", ("a", "e")), "unknown"), (KITE, ("rod", ("e", "f")), "unknown"), (KITE, ("no rod", ("a", "z")), "unknown"),

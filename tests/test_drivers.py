@@ -265,6 +265,9 @@ class DriversTest(Refusals):
         resting, scale = velocities(ARM, straight, {("rod", "b", "c"): 4})
         self.assertEqual((resting, scale), ({"a": (0, 0), "b": (0, 0), "c": (-1, 0), "d": (0, 0)}, 1))
         self.assertIs(is_driven_paper(ARM, rods("bc"), (straight, resting)), False)
+        for x, y in ((2, 1), (-3, 0), (1, 0)):
+            self.assertIs(is_driven_paper(ARM, rods("bc"), (straight, {**resting, "c": (x, 0)})), False)
+            self.assertIs(is_driven_paper(ARM, rods("bc"), (straight, {**resting, "c": (x, 0), "d": (0, y)})), False)
         # A place that is not firm, where the paces are as told.
         special = ({**PLACE[0], "d": (8, -3)}, PLACE[1])
         self.assertIs(is_firm_at_place(ARM, special), False)

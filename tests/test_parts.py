@@ -245,6 +245,10 @@ class PartsTest(Refusals):
         for at, number in ((0, False), (1, True)):
             false = {tie: pin for tie, pin in right.items() if tie != ("slide", "a", at)}
             self.assertIs(are_heads(TRIPOD, {**false, ("slide", "a", number): "a"}), False)
+        # Each pin bears two ties, but a slide is borne by another pin.
+        crossed = {**right, ("slide", "a", 0): "b", ("slide", "b", 0): "a"}
+        self.assertEqual(sorted(crossed.values()), sorted(right.values()))
+        self.assertIs(are_heads(TRIPOD, crossed), False)
         for value in (["a", "b", "c"], ("a", "c", "b"), ("a", "b"), ("a", "b", "c", "e"), None, "abc", True, (("a", "b", "c"),)):
             self.assertIs(is_closed(LADDER, value), False)
         for value in WRONG:

@@ -7,6 +7,7 @@ from lengthstell.book import promises as promise_module
 from lengthstell.book.promises import does_hold, is_paper_against, is_promise, paper_against
 from lengthstell.errors import InvalidFrame, InvalidPromise
 from lengthstell.frame.frames import Frame
+from lengthstell.told.told import is_told_paper, told_paper
 from tests import oracles
 from tests.examples import EIGHT, FOUR, JOINED, KITE, LOOSE_EIGHT, NAMED, SINGLE, THREES, TOO_LONG, TWIN, WHEEL
 from tests.examples import all_frames, pairs, random_frame, random_told_frame, subsets
@@ -116,6 +117,10 @@ class PromisesTest(Refusals):
     def test_no_paper_against_what_holds(self):
         some = [("loose", ()), ("loose", (FOUR.rods,)), ("cut", AB, ("c",)), ("many", 6), ("away", AB), ("needed", AB, (FOUR.rods[1:],)),
                 ("needed", FOUR.rods, (FOUR.rods[1:],)), ("needed", FOUR.rods[1:], (FOUR.rods[1:],)), None]
+        # A paper that the frame is told is none against it.
+        self.assertIs(is_told_paper(FOUR, told_paper(FOUR)), True)
+        self.assertIs(is_paper_against(FOUR, ("told", 2), told_paper(FOUR)), False)
+        self.assertIs(is_paper_against(FOUR, ("told", 1), told_paper(FOUR, space=1)), False)
         for promise in (("firm", 2), ("told", 2), ("spare", AB, 2), ("few", 6), ("few", 28)):
             self.assertIs(does_hold(FOUR, promise), True)
             for value in some:
@@ -189,6 +194,9 @@ class PromisesTest(Refusals):
         self.assertIs(is_paper_against(ring, ("few", 0), ("many", 1)), True)
         self.assertIs(is_paper_against(ring, ("few", 1), ("many", 1)), False)
         self.assertIs(is_paper_against(JOINED, ("firm", 2), ("loose", (pairs("ab ac ad bc bd cd"), pairs("de df dg ef eg fg")))), True)
+        lots = (pairs("ab ac ad bc bd cd"), pairs("de df dg ef eg fg"))
+        for value in (("lose", lots), ("many", lots), ("loose", lots, 1), ("cut", lots), (lots, "loose"), (None, lots), ("loose", lots[::-1])):
+            self.assertIs(is_paper_against(JOINED, ("firm", 2), value), False)
         for value in (("loose",), ("loose", JOINED.rods), ("loose", (JOINED.rods,)), ("loose", ()), ("loose", None), ["loose", ()]):
             self.assertIs(is_paper_against(JOINED, ("firm", 2), value), False)
         for promise in (promise, ("firm", 1), ("told", 2), ("few", 3)):

@@ -5,7 +5,7 @@ from lengthstell.drive.drivers import pins_moved
 from lengthstell.errors import InvalidOperation, Refused
 from lengthstell.frame.checks import check_lot
 from lengthstell.frame.frames import pair_of
-from lengthstell.ground.bearing import heads_of, is_tie_lot, pins_reached
+from lengthstell.ground.bearing import ends_of_tie, heads_of, is_tie_lot, pins_reached
 from lengthstell.ground.parts import (
     all_closed_lots,
     bearable_ties,
@@ -16,7 +16,7 @@ from lengthstell.ground.parts import (
     parts_in_order,
     reached_in,
 )
-from lengthstell.ground.stands import check_stand, check_tie, is_firm_stand, stand_parting
+from lengthstell.ground.stands import check_stand, is_firm_stand, stand_parting
 
 
 def movers(stand, pin):
@@ -53,8 +53,8 @@ def barred_move(stand, lot):
     check_lot(stand.frame, lot)
     borne = heads_of(stand)
     for tie in borne:
-        for pin in tie[1:]:
-            if tie[0] == "rod" and borne[tie] not in lot and pin in lot:
+        for pin in ends_of_tie(tie):
+            if borne[tie] not in lot and pin in lot:
                 return (borne[tie], pin)
     return None
 
@@ -98,7 +98,6 @@ def are_fewest_drivers(stand, wished, value):
 def exchanged(stand, tie, new):
     """The stand with a tie taken out and another one put in."""
     check_stand(stand)
-    check_tie(stand, tie)
     bare = stand.without_tie(tie)
     further = _tie_wanted(stand, bare, new)
     if further is None:
@@ -143,7 +142,8 @@ def _fewest_parts(reached, wished):
     ones are tried.
     """
     lowest = lowest_parts(reached, parts_in_order(reached))
-    for some in lots_by_length(lowest):
-        if all([any([part[0] in reached[pin] for part in some]) for pin in wished]):
-            return some
-    return lowest
+    enough = [
+        some for some in lots_by_length(lowest)
+        if all([any([part[0] in reached[pin] for part in some]) for pin in wished])
+    ]
+    return enough[0]

@@ -14,8 +14,6 @@ GROUND = ("0", "1")
 
 def is_tie_of(ties, value):
     """Whether the value is one of the ties; True and False are no numbers of slides."""
-    if not isinstance(value, tuple) or len(value) != 3:
-        return False
     return value in ties and (isinstance(value[2], str) or is_integer(value[2]))
 
 
@@ -67,9 +65,7 @@ def pins_reached(pins, borne):
     """
     ahead = {pin: [] for pin in pins}
     for tie in borne:
-        for end in ends_of_tie(tie):
-            if end != borne[tie]:
-                ahead[borne[tie]].append(end)
+        ahead[borne[tie]].extend(list(ends_of_tie(tie)))
     return {pin: _reached_from(ahead, pin) for pin in pins}
 
 

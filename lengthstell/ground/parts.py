@@ -114,10 +114,9 @@ def reached_in(stand):
 
 def bearable_ties(borne, reached):
     """For each pin all ties that it bears in some heads, ascending."""
-    # A rod can be turned exactly if it is in a ring, so if its ends lead to each other.
+    # A rod can be turned exactly if it is in a ring, so if its other end leads to the bearer, too.
     return {
-        pin: tuple([tie for tie in borne if pin in ends_of_tie(tie) and pin in reached[borne[tie]]
-                    and borne[tie] in reached[pin]])
+        pin: tuple([tie for tie in borne if pin in ends_of_tie(tie) and borne[tie] in reached[pin]])
         for pin in reached
     }
 

@@ -153,7 +153,7 @@ def _is_plain(value):
 
 
 def _can_be_written(sign):
-    """Whether a character can stand in a string of data."""
+    """Whether a character can stand in a string of data; there is none at the end of a text."""
     return " " <= sign <= "~" and sign not in ("'", '"', "\\")
 
 
@@ -219,16 +219,11 @@ def _read_plain(reading):
 def _read_string(reading):
     reading.take("'")
     start = reading.here
-    while reading.here < start + MAX_STRING and _goes_on(reading.sign()):
+    while reading.here < start + MAX_STRING and _can_be_written(reading.sign()):
         reading.step()
     found = reading.since(start)
     reading.take("'")
     return found
-
-
-def _goes_on(sign):
-    """Whether a string goes on with a sign, which is empty at the end of the text."""
-    return sign != "" and _can_be_written(sign)
 
 
 def _read_integer(reading):
@@ -313,4 +308,4 @@ def _stands_behind(key, ahead):
     """Whether a key can stand behind another one in a dict."""
     if isinstance(key, str) != isinstance(ahead, str):
         return False
-    return (isinstance(key, str) or _do_fit(ahead, key)) and ahead < key
+    return _do_fit(ahead, key) and ahead < key

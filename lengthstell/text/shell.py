@@ -13,7 +13,6 @@ from lengthstell.errors import (
     TooMany,
     UnknownName,
 )
-from lengthstell.frame.checks import check_frame
 from lengthstell.frame.frames import pair_of
 from lengthstell.text.formats import write_data, write_frame
 
@@ -41,7 +40,6 @@ class Shell:
     """A desk of its own, at most one open lot of it, and the lines that were said."""
 
     def __init__(self, frame):
-        check_frame(frame)
         self._desk = Desk(frame)
         self._lot = None
         self._lines = []
