@@ -79,7 +79,7 @@ def place_tried(stand, attempt):
     """A place of a stand, another one for each attempt.
 
     Almost all places have the stand rank, and in almost all of them all pins move
-    that can be moved. These places have no order that would be of a special kind.
+    that can be moved, so one of the first attempts will do. This has been tried.
     """
     placing = {}
     directions = {}
