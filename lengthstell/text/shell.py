@@ -111,7 +111,7 @@ class Shell:
         if word == "promises":
             return ", ".join([_promise_told(promise) for promise in self.promises]) or "none"
         if word == "undo":
-            return f"version {self._desk.undo(*rest)}"
+            return _version_told(self._desk.undo(*rest))
         if word == "lot":
             self._lot = self._desk.lot()
             return "open"
@@ -122,7 +122,7 @@ class Shell:
         if word == "promise":
             return "new" if self._desk.promise(promise) else "there"
         if word == "drop":
-            return f"version {self._desk.drop(promise)}"
+            return _version_told(self._desk.drop(promise))
         if word == "ask":
             return "yes" if does_hold(self.frame, promise) else "no"
         paper = paper_against(self.frame, promise)
@@ -130,7 +130,7 @@ class Shell:
 
     def _deed_done(self, deed):
         if self._lot is None:
-            return f"version {self._desk.do((deed,))}"
+            return _version_told(self._desk.do((deed,)))
         self._lot.add(deed)
         return "taken"
 
@@ -139,7 +139,7 @@ class Shell:
         lot = self._lot
         self._lot = None
         if word == "end":
-            return f"version {lot.end()}"
+            return _version_told(lot.end())
         lot.drop()
         return "dropped"
 
@@ -231,6 +231,10 @@ def _refusal_told(reason):
     if reason[0] == "deed":
         return f"failed {reason[2]}"
     return f"broken {_promise_told(reason[1])}"
+
+
+def _version_told(version):
+    return f"version {version}"
 
 
 def _promise_told(promise):
